@@ -1,0 +1,1 @@
+"""Pieceasks: what a piece of code asks of its objects."""

@@ -1,0 +1,133 @@
+"""How rows of a code are gone through, from one call to the next.
+
+A state is a triple of a row, what lies in the slots, and how many things have come so far.
+"""
+
+from pieceasks.things import CONSTANTS, FALSE, UNSET, count_things
+
+# The row of a state that goes on for ever without a call.
+NOWHERE = -1
+
+
+def _thing(operand, slots):
+    """The thing of an operand."""
+    return operand if isinstance(operand, str) else slots[operand]
+
+
+def _holds(row, slots, lacking):
+    """Whether a test leads to the first of its goals."""
+    match row[0]:
+        case "has":
+            thing = _thing(row[2], slots)
+            return not isinstance(thing, str) and (row[1], thing) not in lacking
+        case "same":
+            return _thing(row[1], slots) == _thing(row[2], slots)
+        case "kind":
+            return _thing(row[1], slots) in CONSTANTS
+        case "true":
+            return _thing(row[1], slots) not in FALSE
+        case _:
+            return slots[row[1]] != UNSET
+
+
+def _step(row, at, slots, lacking):
+    """Does a row that neither asks nor ends, and returns the row that comes then."""
+    match row[0]:
+        case "move":
+            slots[row[1]] = _thing(row[2], slots)
+            return at + 1
+        case "unset":
+            slots[row[1]] = UNSET
+            return at + 1
+        case "jump":
+            return row[1]
+        case _:
+            return row[-2] if _holds(row, slots, lacking) else row[-1]
+
+
+def _slots_of(row):
+    """What a row names of slots, and constants and words among them."""
+    match row[0]:
+        case "has":
+            return [row[2]]
+        case "same" | "move":
+            return [row[1], row[2]]
+        case "ask":
+            return [*row[2], row[3]]
+        case "end":
+            return [row[2], *row[3]]
+        case "jump":
+            return []
+        case _:
+            return [row[1]]
+
+
+def _room(rows, many):
+    """How many slots there are, of which the first so many lie open at the begin."""
+    for row in rows:
+        for slot in _slots_of(row):
+            if not isinstance(slot, str) and slot >= many:
+                many = slot + 1
+    return many
+
+
+class Machine:
+    """Rows with labels of their first slots, which tell what is held."""
+
+    def __init__(self, table, labels):
+        self.table = table
+        self.labels = labels
+        self.room = _room(table, len(labels))
+
+    def start(self, begin):
+        """The state at the begin."""
+        rest = [UNSET] * (self.room - len(begin))
+        return 0, (*begin, *rest), count_things(begin)
+
+    def reach(self, state, lacking):
+        """The state at the next call or end, if these pairs are lacking at this moment."""
+        at, before, many = state
+        slots = list(before)
+        passed = set()
+        while self.table[at][0] not in ("ask", "end"):
+            goal = _step(self.table[at], at, slots, lacking)
+            # Whoever goes on for ever comes back again and again to the same row with the same things.
+            if goal <= at:
+                mark = (goal, tuple(slots))
+                if mark in passed:
+                    return NOWHERE, tuple(slots), many
+                passed.add(mark)
+            at = goal
+        return at, tuple(slots), many
+
+    def asks(self, state):
+        """Whether a call is made at a state that was reached."""
+        return state[0] != NOWHERE and self.table[state[0]][0] == "ask"
+
+    def coming(self, state):
+        """The call or the end at a state that was reached."""
+        at, slots, _ = state
+        if at == NOWHERE:
+            return ("endless",)
+        row = self.table[at]
+        if row[0] == "ask":
+            return (row[1], *[_thing(part, slots) for part in row[2]])
+        return row[1], _thing(row[2], slots), tuple([slots[slot] for slot in row[3]])
+
+    def answered(self, state, answer):
+        """The state behind an answer, which is allowed, to the call at a state that was reached."""
+        at, before, many = state
+        row = self.table[at]
+        slots = list(before)
+        if len(answer) == 2:
+            slots[row[3]] = answer[1]
+            if answer[1] == many:
+                many += 1
+        for word, goal in row[4]:
+            if word == answer[0]:
+                at = goal
+        return at, tuple(slots), many
+
+    def labelled(self, state):
+        """The things in the slots that have labels and are set."""
+        return {label: thing for label, thing in zip(self.labels, state[1]) if thing != UNSET}

@@ -1,0 +1,229 @@
+"""The package keeps to what can be checked here of the rules of ../shared/LANGUAGE.md (L1 to L28)."""
+
+import ast
+import builtins
+import pathlib
+import re
+import unittest
+import warnings
+
+FOLDER = pathlib.Path(__file__).parent.parent / "pieceasks"
+FILES = sorted(FOLDER.rglob("*.py"))
+
+ALLOWED_BUILTINS = set(
+    "len range enumerate zip min max sum abs sorted reversed int str bool list tuple dict set isinstance ord repr any all "
+    "divmod pow iter next map getattr hasattr setattr property staticmethod classmethod super "
+    "Exception ValueError TypeError KeyError IndexError LookupError ZeroDivisionError ArithmeticError OverflowError "
+    "RuntimeError NotImplementedError AttributeError StopIteration NotImplemented".split())
+BUILTIN_METHODS = set(
+    "append clear copy count endswith extend find get index insert isalnum isalpha isdigit islower isspace isupper items "
+    "join keys ljust lower lstrip partition pop remove replace reverse rfind rjust rpartition rsplit rstrip setdefault split "
+    "splitlines startswith strip update upper values zfill bit_length title capitalize swapcase casefold center expandtabs "
+    "removeprefix removesuffix rindex isascii isdecimal isnumeric istitle isidentifier isprintable translate encode decode "
+    "hex format add discard".split())
+SPECIAL_METHODS = set(
+    "__init__ __eq__ __repr__ __str__ __len__ __enter__ __exit__ __call__ __iter__ __lt__ __le__ __gt__ __ge__ __ne__ __add__ "
+    "__sub__ __and__ __or__ __radd__ __rsub__ __rand__ __ror__ __iadd__ __isub__ __iand__ __ior__ __invert__ __bool__ "
+    "__contains__ __getitem__ __setitem__".split())
+BARRED_WORDS = (
+    "typing", "typing_extensions", "enum", "Enum", "IntEnum", "StrEnum", "Flag", "IntFlag", "Generic", "Protocol", "ABC",
+    "ABCMeta", "namedtuple", "NamedTuple", "TypedDict", "TYPE_CHECKING", "abstractmethod", "dataclass", "overload",
+    "contextmanager", "_wall", "_WallAttr", "metaclass")
+BARRED_NAMES = set(
+    "register mro elements open input law version_info with_traceback add_note attrgetter breakpoint builtins compile copyright "
+    "credits delattr dir eval exec exit gc globals help id importlib license locals methodcaller os quit type vars sys".split())
+FORBIDDEN_NODES = (
+    ast.Global, ast.AsyncFunctionDef, ast.Await, ast.AsyncFor, ast.AsyncWith, ast.Import, ast.FloorDiv, ast.Div, ast.Try, ast.AnnAssign)
+
+
+def trees():
+    for path in FILES:
+        yield path, ast.parse(path.read_text(encoding="ascii"))
+
+
+def bound_names(tree):
+    """All names that a file gives to something, but methods and attributes."""
+    methods = {id(part) for node in ast.walk(tree) if isinstance(node, ast.ClassDef) for part in node.body}
+    for node in ast.walk(tree):
+        if isinstance(node, ast.Name) and not isinstance(node.ctx, ast.Load):
+            yield node.id
+        elif isinstance(node, ast.arg):
+            yield node.arg
+        elif isinstance(node, (ast.FunctionDef, ast.ClassDef)) and id(node) not in methods:
+            yield node.name
+        elif isinstance(node, ast.alias):
+            yield node.asname or node.name
+        elif isinstance(node, (ast.MatchAs, ast.MatchStar)) and node.name:
+            yield node.name
+
+
+def classes_of(tree):
+    return [node for node in tree.body if isinstance(node, ast.ClassDef)]
+
+
+def is_plain(node):
+    """Whether the value of a name at module level is a plain one."""
+    if isinstance(node, ast.Constant):
+        return True
+    if isinstance(node, ast.UnaryOp):
+        return isinstance(node.op, ast.USub) and is_plain(node.operand)
+    if isinstance(node, (ast.Tuple, ast.List)):
+        return all(is_plain(part) for part in node.elts)
+    if isinstance(node, ast.Dict):
+        return all(is_plain(part) and not isinstance(part, (ast.Dict, ast.List)) for part in node.keys + node.values)
+    return False
+
+
+class LanguageTest(unittest.TestCase):
+    def test_folder(self):
+        for path in FOLDER.rglob("*"):
+            if path.name == "__pycache__" or path.parent.name == "__pycache__":
+                continue
+            self.assertTrue(re.fullmatch(r"[a-z][a-z0-9_]*\.py|__init__\.py|__main__\.py", path.name), path)
+            self.assertNotIn(path.stem, dir(builtins))
+        self.assertLessEqual(len(FILES), 100)
+
+    def test_lines(self):
+        for path in FILES:
+            text = path.read_text(encoding="utf-8")
+            self.assertTrue(all(sign == "\n" or " " <= sign <= "~" for sign in text), path)
+            lines = text.split("\n")
+            self.assertLessEqual(len(lines), 399, path)
+            for line in lines:
+                self.assertLessEqual(len(line), 120, (path, line))
+
+    def test_functions_are_short(self):
+        for path, tree in trees():
+            for node in ast.walk(tree):
+                if isinstance(node, ast.FunctionDef):
+                    self.assertLessEqual(node.end_lineno - node.lineno + 1, 40, (path, node.name))
+
+    def test_warnings(self):
+        with warnings.catch_warnings():
+            warnings.simplefilter("error")
+            for path in FILES:
+                compile(path.read_text(encoding="utf-8"), str(path), "exec")
+
+    def test_module_level(self):
+        for path, tree in trees():
+            for at, node in enumerate(tree.body):
+                if at == 0 and isinstance(node, ast.Expr) and isinstance(node.value, ast.Constant):
+                    continue
+                if isinstance(node, ast.Assign):
+                    self.assertEqual(len(node.targets), 1)
+                    self.assertIsInstance(node.targets[0], ast.Name)
+                    self.assertTrue(is_plain(node.value), (path, node.lineno))
+                else:
+                    self.assertIsInstance(node, (ast.ImportFrom, ast.FunctionDef, ast.ClassDef), (path, node.lineno))
+
+    def test_imports(self):
+        goals = {}
+        for path, tree in trees():
+            goals[path.stem] = []
+            for node in ast.walk(tree):
+                if isinstance(node, ast.ImportFrom):
+                    self.assertEqual(node.level, 0)
+                    self.assertTrue(node.module.startswith("pieceasks."), (path, node.module))
+                    goals[path.stem].append(node.module.removeprefix("pieceasks."))
+                    source = ast.parse((FOLDER / f"{goals[path.stem][-1]}.py").read_text())
+                    there = {part.name for part in source.body if isinstance(part, (ast.FunctionDef, ast.ClassDef))}
+                    there |= {part.targets[0].id for part in source.body if isinstance(part, ast.Assign)}
+                    used = {part.id for part in ast.walk(tree) if isinstance(part, ast.Name)}
+                    for alias in node.names:
+                        self.assertIn(alias.name, there, path)
+                        self.assertIn(alias.asname or alias.name, used, path)
+        # No two files import from each other.
+        while goals:
+            free = [name for name in goals if not set(goals[name]) & set(goals)]
+            self.assertTrue(free, goals)
+            for name in free:
+                del goals[name]
+
+    def test_nodes(self):
+        for path, tree in trees():
+            for node in ast.walk(tree):
+                self.assertNotIsInstance(node, FORBIDDEN_NODES, (path, getattr(node, "lineno", 0)))
+                if isinstance(node, ast.Constant):
+                    self.assertNotIsInstance(node.value, (float, complex))
+                    if isinstance(node.value, str):
+                        self.assertNotIn("%", node.value, path)
+                        self.assertFalse(node.value.startswith("__") and node.value.endswith("__") and node.value, path)
+                if isinstance(node, ast.Compare):
+                    for op, other in zip(node.ops, node.comparators):
+                        if isinstance(op, (ast.Is, ast.IsNot)):
+                            self.assertIsInstance(other, ast.Constant, (path, node.lineno))
+                if isinstance(node, ast.Call) and isinstance(node.func, ast.Name) and node.func.id in ("any", "all", "sorted"):
+                    self.assertNotIsInstance(node.args[0], ast.GeneratorExp, (path, node.lineno))
+                if isinstance(node, ast.Raise):
+                    self.assertIsInstance(node.exc, ast.Call, (path, node.lineno))
+
+    def test_names(self):
+        for path, tree in trees():
+            for name in bound_names(tree):
+                self.assertNotIn(name, dir(builtins), path)
+                self.assertNotIn(name, BARRED_NAMES, path)
+                self.assertFalse(name.startswith("__"), (path, name))
+            own = set(bound_names(tree))
+            for node in ast.walk(tree):
+                if isinstance(node, ast.Name) and node.id in dir(builtins) and node.id not in own:
+                    self.assertIn(node.id, ALLOWED_BUILTINS, (path, node.lineno))
+
+    def test_words(self):
+        for path in FILES:
+            for word in re.findall(r"\w+", path.read_text(encoding="utf-8")):
+                self.assertNotIn(word, BARRED_WORDS, path)
+
+    def test_locals_do_not_hide(self):
+        for path, tree in trees():
+            known = {alias.asname or alias.name for node in tree.body if isinstance(node, ast.ImportFrom) for alias in node.names}
+            known |= {node.name for node in classes_of(tree)}
+            for function in ast.walk(tree):
+                if isinstance(function, ast.FunctionDef):
+                    self.assertFalse(known & set(bound_names(ast.Module(function.body, []))), (path, function.name))
+                    self.assertFalse(known & {arg.arg for arg in function.args.args}, (path, function.name))
+
+    def class_names(self):
+        """The names of all methods, properties and attributes."""
+        methods, properties, attributes = set(), set(), set()
+        for path, tree in trees():
+            for node in ast.walk(tree):
+                if isinstance(node, ast.Attribute) and isinstance(node.ctx, ast.Store):
+                    attributes.add(node.attr)
+            for owner in classes_of(tree):
+                own = [part for part in owner.body if isinstance(part, ast.FunctionDef)]
+                for part in own:
+                    decorators = [one.id for one in part.decorator_list if isinstance(one, ast.Name)]
+                    if part.name.startswith("__"):
+                        self.assertIn(part.name, SPECIAL_METHODS, path)
+                    (properties if "property" in decorators else methods).add(part.name)
+                names = {part.name for part in own}
+                if "__getitem__" in names:
+                    self.assertIn("__iter__", names)
+        return methods, properties, attributes
+
+    def test_classes(self):
+        methods, properties, attributes = self.class_names()
+        self.assertFalse(properties & methods)
+        self.assertFalse(properties & attributes)
+        self.assertFalse(properties & BUILTIN_METHODS)
+        self.assertFalse({name for name in methods if not name.startswith("__")} & attributes)
+
+    def test_methods_that_are_called(self):
+        known = self.class_names()[0] | BUILTIN_METHODS
+        for path, tree in trees():
+            for node in ast.walk(tree):
+                if isinstance(node, ast.Call) and isinstance(node.func, ast.Attribute):
+                    self.assertIn(node.func.attr, known, (path, node.lineno))
+
+    def test_interface(self):
+        places = {"errors": ("AskError", "InvalidPiece", "InvalidText", "InvalidBook", "InvalidCode", "InvalidPromise", "Unlike",
+                             "Misfit", "InvalidCommand", "NoPlace", "OtherShape", "UnknownName"),
+                  "pieces": ("Piece",), "runs": ("Run",)}
+        for path, tree in trees():
+            there = {node.name for node in tree.body if isinstance(node, (ast.FunctionDef, ast.ClassDef))}
+            for name in places.get(path.stem, ()):
+                self.assertIn(name, there)
+
+
+if __name__ == "__main__":
+    unittest.main()

@@ -1,0 +1,23 @@
+"""What README.md shows is so."""
+
+import doctest
+import pathlib
+import re
+import unittest
+
+README = pathlib.Path(__file__).parent.parent / "README.md"
+
+
+class ReadmeTest(unittest.TestCase):
+    def test_examples(self):
+        blocks = re.findall(r"```python\n(.*?)```", README.read_text(encoding="utf-8"), re.DOTALL)
+        self.assertTrue(blocks)
+        for block in blocks:
+            example = doctest.DocTestParser().get_doctest(block, {}, "README.md", "README.md", 0)
+            runner = doctest.DocTestRunner(verbose=False)
+            runner.run(example)
+            self.assertEqual(runner.summarize(verbose=False).failed, 0)
+
+
+if __name__ == "__main__":
+    unittest.main()
