@@ -1,12 +1,10 @@
 """How rows of a code are gone through, from one call to the next.
 
-A state is a triple of a row, what lies in the slots, and how many things have come so far.
+A state is a triple of a row, what lies in the slots, and how many things have come so far; it has
+no row (None) if it goes on for ever without a call.
 """
 
 from pieceasks.things import CONSTANTS, FALSE, UNSET, count_things
-
-# The row of a state that goes on for ever without a call.
-NOWHERE = -1
 
 
 def _thing(operand, slots):
@@ -95,19 +93,19 @@ class Machine:
             if goal <= at:
                 mark = (goal, tuple(slots))
                 if mark in passed:
-                    return NOWHERE, tuple(slots), many
+                    return None, tuple(slots), many
                 passed.add(mark)
             at = goal
         return at, tuple(slots), many
 
     def asks(self, state):
         """Whether a call is made at a state that was reached."""
-        return state[0] != NOWHERE and self.table[state[0]][0] == "ask"
+        return state[0] is not None and self.table[state[0]][0] == "ask"
 
     def coming(self, state):
         """The call or the end at a state that was reached."""
         at, slots, _ = state
-        if at == NOWHERE:
+        if at is None:
             return ("endless",)
         row = self.table[at]
         if row[0] == "ask":

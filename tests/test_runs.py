@@ -564,6 +564,67 @@ class LeavingTest(Story):
         text = "params x y\ntry:\n try:\n  return x()\n finally:\n  raise y\nexcept as e:\n return e"
         self.follow(text, "0 1", "call 0: tells 2\n = returns 1")
 
+    def test_what_is_used_later_is_kept(self):
+        """What a statement still needs is not lost while others, or parts of it, are done."""
+        text = ("params x y z\nkept x y z\nwith x as z[x].w:\n for y[z].v in y:\n  with z as y[x]:\n   for z.w in y:\n"
+                "    y[z].w, x[y] = z\n    x[y].w, z = y, x != y != z\n    y.w[z] += x\n    return x(y)")
+        run = self.follow(text, "0 1 2", """enter 0: tells 3
+            getitem 2 0: tells 4
+            setattr 4 .w 3: done
+            iter 1: tells 5
+            next 5: tells 6
+            getitem 1 2: tells 7
+            setattr 7 .v 6: done
+            enter 2: tells 8
+            setitem 1 0 8: done
+            iter 1: tells 9
+            next 9: tells 10
+            setattr 2 .w 10: done
+            iter 2: tells 11
+            next 11: tells 12
+            next 11: tells 13
+            next 11: stop
+            getitem 1 2: tells 14
+            setattr 14 .w 12: done
+            setitem 0 1 13: done
+            ne:0 | eq 0 1: tells False
+            ne:1 eq:1 ne:2 | eq 2 1: tells 15
+            bool 15: yes
+            getitem 0 1: tells 16
+            setattr 16 .w 1: done
+            getattr 1 .w: tells 17
+            getitem 17 False: tells 18
+            iadd 18 0: declines
+            add 18 0: tells 19
+            setitem 17 False 19: done
+            call 0 1: tells 20
+            exit 2 None: tells 21
+            exit 0 None: tells 22
+            = returns 20 0 1 False""")
+        self.assertEqual(run.held, {"x": 0, "y": 1, "z": "False"})
+        text = "params x y z\nkept x y z\nreturn x((y if x else z) in x[z], x != y != z)"
+        self.follow(text, "0 1 2", """bool 0: yes
+            getitem 0 2: tells 3
+            contains:3 | iter 3: tells 4
+            next 4: tells 5
+            eq 5 1: tells False
+            next 4: stop
+            ne:0 eq:0 ne:1 | eq 1 0: tells 6
+            bool 6: no
+            ne:1 | eq 1 2: tells True
+            call 0 False False: tells 7
+            = returns 7 0 1 2""")
+        text = "params x y z\nkept x y z\nx + (y != x != z) * (x < y < (z := z()))"
+        self.follow(text, "0 1 2", """ne:1 | eq 1 0: tells False
+            ne:0 | eq 0 2: tells 3
+            bool 3: no
+            lt 0 1: tells True
+            call 2: tells 4
+            lt:1 | gt 4 1: tells 5
+            rmul 5 True: tells 6
+            add 0 6: tells 7
+            = falls None 0 1 4""")
+
     def test_nested_leaving(self):
         text = ("params x y\nwhile x:\n try:\n  with y:\n   try:\n    continue\n   finally:\n    x()\n finally:\n  y()\nreturn y")
         self.follow(text, "0 1", "bool 0: yes\n enter 1: tells 2\n call 0: tells 3\n exit 1 None: tells 4\n call 1: tells 5\n bool 0: no\n = returns 1")

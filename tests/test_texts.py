@@ -100,6 +100,15 @@ STATEMENTS = [
 ]
 
 
+# An expression of each form; x stands where any expression may.
+FORMS = [
+    ("None",), ("True",), ("False",), ("+", X, X), ("-", X, X), ("*", X, X), ("neg", X), ("not", X), ("and", X, X), ("or", X, X),
+    ("compare", "==", X, X), ("compare", "<", X, X), ("compare", "in", X, X), ("compare", "not in", X, X), ("compare", "is", X, X),
+    ("compare", "is not", X, X), ("chain", "<", X, "==", X, X), ("item", X, X), ("attr", X, "w"), ("call", X, ()),
+    ("call", X, ("y", "z")), ("if", X, X, X), (":=", "x", X),
+]
+
+
 def from_python(node):
     """The expression of what Python itself read."""
     words = {"Add": "+", "Sub": "-", "Mult": "*", "Eq": "==", "NotEq": "!=", "Lt": "<", "LtE": "<=", "Gt": ">",
@@ -248,6 +257,8 @@ class RightTextTest(unittest.TestCase):
         self.assertEqual(f"params\n{deep}".replace("(", "").replace(")", ""), str(Piece.read(f"params\n{deep}")))
         calls = "f(" * 20 + "-" * 40 + "x" + ")" * 20
         self.assertEqual(str(Piece.read(f"params\n{calls}")), f"params\n{calls}")
+        letters = "params\n" + "\n".join(f"if {letter}:\n {letter} = {letter}{letter}" for letter in "abcdefghijklmnopqrstuvwxyz")
+        self.assertEqual(str(Piece.read(letters)), letters)
         many = "params\n" + "\n".join(f"x{letter} = y{letter}" for letter in "abcdefghij" * 100)
         self.assertEqual(str(Piece.read(many)), many)
         self.assertEqual(len(Piece.read(many)), 1000)
@@ -272,6 +283,22 @@ class RightTextTest(unittest.TestCase):
                     self.assertNotEqual(value_of(shorter), value, text)
                 except InvalidText:
                     pass
+
+    def test_each_form_in_each_place(self):
+        for outer in FORMS:
+            for at, part in enumerate(outer):
+                if at == 0 or part != X or (outer[0] == ":=" and at == 1):
+                    continue
+                for inner in FORMS + [("not", ("not", "y")), ("neg", ("neg", "y"))]:
+                    value = outer[:at] + (inner,) + outer[at + 1:]
+                    text = str(Piece((), (("do", value),))).partition("\n")[2]
+                    self.assertEqual(value_of(text), value)
+                    self.assertEqual(from_python(ast.parse(text, mode="eval").body), value, text)
+                    for shorter in without_brackets(text):
+                        try:
+                            self.assertNotEqual(value_of(shorter), value, text)
+                        except InvalidText:
+                            pass
 
     def test_all_brackets(self):
         for seed in range(500):
