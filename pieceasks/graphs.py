@@ -86,7 +86,7 @@ def _goals(nodes, number):
     return [_settled(nodes, goal) for goal in found]
 
 
-def _lay_chain(nodes, number, places, order):
+def _chain_goals(nodes, number, places, order):
     """Lays a row and those that must follow it; returns the goals that may lie anywhere."""
     while number not in places:
         places[number] = len(order)
@@ -124,5 +124,5 @@ def laid_rows(nodes, first):
     while todo:
         number = todo.pop()
         if number not in places:
-            todo.extend(_lay_chain(nodes, number, places, order))
+            todo.extend(_chain_goals(nodes, number, places, order))
     return tuple([_with_places(nodes, node, places) for node in order])

@@ -54,13 +54,7 @@ class LineReader:
 
     def expression(self, least=IF_ELSE):
         """The longest expression that stands here and binds at least so tightly."""
-        value = self.front(least)
-        while least <= PRODUCT and self.skips(" * "):
-            value = ("*", value, self.expression(NEGATIVE))
-        while least <= SUM and (sign := self.skips_one(("+", "-"))):
-            value = (sign, value, self.expression(PRODUCT))
-        if least <= COMPARISON:
-            value = self.compared(value)
+        value = self.negated() if least <= NOT else self.tight(least)
         while least <= AND and self.skips(" and "):
             value = ("and", value, self.expression(NOT))
         while least <= OR and self.skips(" or "):
@@ -71,10 +65,24 @@ class LineReader:
             value = ("if", condition, value, self.expression())
         return value
 
+    def negated(self):
+        """The longest expression that stands here and binds at least as tightly as `not`."""
+        # All that stands behind `not` and binds more tightly is its own, so nothing may follow it.
+        if self.skips("not "):
+            return ("not", self.negated())
+        return self.tight(COMPARISON)
+
+    def tight(self, least):
+        """The longest expression that stands here and binds so tightly, more than `not`."""
+        value = self.front(least)
+        while least <= PRODUCT and self.skips(" * "):
+            value = ("*", value, self.expression(NEGATIVE))
+        while least <= SUM and (sign := self.skips_one(("+", "-"))):
+            value = (sign, value, self.expression(PRODUCT))
+        return self.compared(value) if least <= COMPARISON else value
+
     def front(self, least):
         """The expression that begins here, up to its first operator between operands."""
-        if least <= NOT and self.skips("not "):
-            return ("not", self.expression(NOT))
         if least <= NEGATIVE and self.skips("-"):
             return ("neg", self.expression(NEGATIVE))
         return self.behind(self.atom())

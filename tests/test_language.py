@@ -32,6 +32,8 @@ BARRED_WORDS = (
 BARRED_NAMES = set(
     "register mro elements open input law version_info with_traceback add_note attrgetter breakpoint builtins compile copyright "
     "credits delattr dir eval exec exit gc globals help id importlib license locals methodcaller os quit type vars sys".split())
+BARRED_BEGINS = ("__", "_wall", "_pe_", "_dcw_", "_enum_", "_cm_", "_twin_re_", "_lay_", "_law_", "_stub_", "_sre", "_WallAttr")
+BARRED_ENTIRELY = re.compile("(_cold|_tuplegetter|_outside|_record|_written_out|_member_names)[0-9_]*")
 FORBIDDEN_NODES = (
     ast.Global, ast.AsyncFunctionDef, ast.Await, ast.AsyncFor, ast.AsyncWith, ast.Import, ast.FloorDiv, ast.Div, ast.Try, ast.AnnAssign)
 
@@ -162,7 +164,8 @@ class LanguageTest(unittest.TestCase):
             for name in bound_names(tree):
                 self.assertNotIn(name, dir(builtins), path)
                 self.assertNotIn(name, BARRED_NAMES, path)
-                self.assertFalse(name.startswith("__"), (path, name))
+                self.assertFalse(name.startswith(BARRED_BEGINS), (path, name))
+                self.assertFalse(BARRED_ENTIRELY.fullmatch(name), (path, name))
             own = set(bound_names(tree))
             for node in ast.walk(tree):
                 if isinstance(node, ast.Name) and node.id in dir(builtins) and node.id not in own:

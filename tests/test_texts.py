@@ -274,6 +274,24 @@ class RightTextTest(unittest.TestCase):
             text = str(Piece((), (("do", value),))).partition("\n")[2]
             self.assertEqual(from_python(ast.parse(text, mode="eval").body), value, text)
 
+    def test_what_is_read_python_reads_alike(self):
+        """Operators and operands in any order: what is read at all is read as Python does."""
+        fronts = ("", "", "", "not ", "-", "not -", "not not ")
+        links = ("+", "*", "==", "<", "in", "not in", "is", "is not", "and", "or", "if", "else")
+        many = 0
+        for seed in range(8000):
+            dice = random.Random(seed)
+            text = dice.choice(fronts) + "x"
+            for letter in "yzab"[:dice.randrange(1, 5)]:
+                text = f"{text} {dice.choice(links)} {dice.choice(fronts)}{letter}"
+            try:
+                value = value_of(text)
+            except InvalidText:
+                continue
+            many += 1
+            self.assertEqual(from_python(ast.parse(text, mode="eval").body), value, text)
+        self.assertGreater(many, 1000)
+
     def test_no_bracket_could_be_left_out(self):
         for seed in range(1500):
             value = Maker(random.Random(seed)).expression(4)
@@ -402,6 +420,17 @@ class WrongTextTest(unittest.TestCase):
             for place in ("{}", "x = {}", "x[y] += {}", "return {}", "if {}:", "for x in {}:", "with {}:", "x, y = z, {}"):
                 whole = place.replace("{}", text)
                 self.fails(1, f"params x\n{whole}\n pass")
+
+    def test_too_many_comparisons(self):
+        for front in ("", "not ", "not not ", "not -", "-"):
+            for many in ("== y == z == x", "in y == z", "== y in z", "in y in z", "is y is z", "not in y < z", "< y is not z",
+                         "== y == z in x", "< y < z < x < y"):
+                for place in ("{}", "x = {}", "y and {} or y", "y or {}", "y if {} else z", "{} if y else z", "y if z else {}",
+                              "f({})", "x[{}]", "({})", "(y := {})", "not ({})", "y == ({})"):
+                    whole = place.replace("{}", f"{front}x {many}")
+                    self.fails(1, f"params x\n{whole}")
+        for text in ("not x == y and z in x and not z < x", "not x < y < z", "not (x == y) == z", "(not x == y) == z == x"):
+            self.assertEqual(from_python(ast.parse(text, mode="eval").body), value_of(text))
 
     def test_blanks(self):
         """A blank more within a line, or at its end, makes each line wrong."""
