@@ -4,10 +4,11 @@ A state is a triple of a row, what lies in the slots, and how many things have c
 no row (None) if it goes on for ever without a call.
 """
 
+from pieceasks.flows import count_slots
 from pieceasks.things import CONSTANTS, FALSE, UNSET, count_things
 
 
-def _thing(operand, slots):
+def thing_of(operand, slots):
     """The thing of an operand."""
     return operand if isinstance(operand, str) else slots[operand]
 
@@ -16,23 +17,23 @@ def _holds(row, slots, lacking):
     """Whether a test leads to the first of its goals."""
     match row[0]:
         case "has":
-            thing = _thing(row[2], slots)
+            thing = thing_of(row[2], slots)
             return not isinstance(thing, str) and (row[1], thing) not in lacking
         case "same":
-            return _thing(row[1], slots) == _thing(row[2], slots)
+            return thing_of(row[1], slots) == thing_of(row[2], slots)
         case "kind":
-            return _thing(row[1], slots) in CONSTANTS
+            return thing_of(row[1], slots) in CONSTANTS
         case "true":
-            return _thing(row[1], slots) not in FALSE
+            return thing_of(row[1], slots) not in FALSE
         case _:
             return slots[row[1]] != UNSET
 
 
-def _step(row, at, slots, lacking):
+def step(row, at, slots, lacking):
     """Does a row that neither asks nor ends, and returns the row that comes then."""
     match row[0]:
         case "move":
-            slots[row[1]] = _thing(row[2], slots)
+            slots[row[1]] = thing_of(row[2], slots)
             return at + 1
         case "unset":
             slots[row[1]] = UNSET
@@ -43,30 +44,11 @@ def _step(row, at, slots, lacking):
             return row[-2] if _holds(row, slots, lacking) else row[-1]
 
 
-def _slots_of(row):
-    """What a row names of slots, and constants and words among them."""
-    match row[0]:
-        case "has":
-            return [row[2]]
-        case "same" | "move":
-            return [row[1], row[2]]
-        case "ask":
-            return [*row[2], row[3]]
-        case "end":
-            return [row[2], *row[3]]
-        case "jump":
-            return []
-        case _:
-            return [row[1]]
-
-
-def _room(rows, many):
-    """How many slots there are, of which the first so many lie open at the begin."""
-    for row in rows:
-        for slot in _slots_of(row):
-            if not isinstance(slot, str) and slot >= many:
-                many = slot + 1
-    return many
+def coming_at(row, slots):
+    """The call or the end that a row tells, which is an `ask` or an `end`."""
+    if row[0] == "ask":
+        return (row[1], *[thing_of(part, slots) for part in row[2]])
+    return row[1], thing_of(row[2], slots), tuple([slots[slot] for slot in row[3]])
 
 
 class Machine:
@@ -75,7 +57,7 @@ class Machine:
     def __init__(self, table, labels):
         self.table = table
         self.labels = labels
-        self.room = _room(table, len(labels))
+        self.room = count_slots(table, len(labels))
 
     def start(self, begin):
         """The state at the begin."""
@@ -84,19 +66,27 @@ class Machine:
 
     def reach(self, state, lacking):
         """The state at the next call or end, if these pairs are lacking at this moment."""
+        return self.reach_looking(state, lacking)[0]
+
+    def reach_looking(self, state, lacking):
+        """The same with what is looked up: pairs of a method and whether it was there."""
         at, before, many = state
         slots = list(before)
         passed = set()
+        looks = []
         while self.table[at][0] not in ("ask", "end"):
-            goal = _step(self.table[at], at, slots, lacking)
+            row = self.table[at]
+            goal = step(row, at, slots, lacking)
+            if row[0] == "has" and not isinstance(thing_of(row[2], slots), str):
+                looks.append((row[1], (row[1], thing_of(row[2], slots)) not in lacking))
             # Whoever goes on for ever comes back again and again to the same row with the same things.
             if goal <= at:
                 mark = (goal, tuple(slots))
                 if mark in passed:
-                    return None, tuple(slots), many
+                    return (None, tuple(slots), many), looks
                 passed.add(mark)
             at = goal
-        return at, tuple(slots), many
+        return (at, tuple(slots), many), looks
 
     def asks(self, state):
         """Whether a call is made at a state that was reached."""
@@ -105,12 +95,7 @@ class Machine:
     def coming(self, state):
         """The call or the end at a state that was reached."""
         at, slots, _ = state
-        if at is None:
-            return ("endless",)
-        row = self.table[at]
-        if row[0] == "ask":
-            return (row[1], *[_thing(part, slots) for part in row[2]])
-        return row[1], _thing(row[2], slots), tuple([slots[slot] for slot in row[3]])
+        return ("endless",) if at is None else coming_at(self.table[at], slots)
 
     def answered(self, state, answer):
         """The state behind an answer, which is allowed, to the call at a state that was reached."""

@@ -39,6 +39,29 @@ ANSWERS = {
 # These may tell True or False besides things of a class of their own.
 DECIDING = ("eq", "ne", "lt", "le", "gt", "ge", "contains", "exit")
 
+# With what each method is called behind its thing: the words, then the least and the most things.
+COUNTS = {
+    "neg": (0, 0, 0), "iter": (0, 0, 0), "enter": (0, 0, 0), "next": (0, 0, 0), "bool": (0, 0, 0), "len": (0, 0, 0),
+    "call": (0, 0, 2), "setitem": (0, 2, 2), "getattr": (1, 0, 0), "delattr": (1, 0, 0), "setattr": (1, 1, 1),
+}
+
+# The answers that are one word.
+LONE_WORDS = ("declines", "stop", "no", "yes", "empty", "some", "done")
+
+
+def counts_of(method):
+    """How many words, and how many things at least and at most, a method is called with."""
+    return COUNTS.get(method, (0, 1, 1))
+
+
+def is_some_answer(answer, many):
+    """Whether any value answers a call of some method, where so many things came before."""
+    if not isinstance(answer, tuple) or len(answer) == 0:
+        return False
+    if len(answer) == 1:
+        return answer[0] in LONE_WORDS
+    return len(answer) == 2 and answer[0] in ("raises", "tells") and _is_handed("eq", answer[0], answer[1], many)
+
 
 def is_answer(method, answer, many):
     """Whether any value answers a call of a method, where so many things came before."""

@@ -5,6 +5,7 @@ from pieceasks.errors import InvalidPiece, NoPlace, OtherShape
 from pieceasks.forms import is_loose, is_statement, spots, statement_names
 from pieceasks.machines import Machine
 from pieceasks.reading import read_piece
+from pieceasks.walks import walked
 from pieceasks.words import right_name, wrong_name
 from pieceasks.writing import piece_lines
 
@@ -121,7 +122,16 @@ class Piece:
             return Piece(self._params, (*other, *self._body), self._kept)
         return NotImplemented
 
+    def __call__(self, book):
+        return walked(self.machine(), self.shape, book)
+
     def machine(self):
         """What goes through the piece, from one call to the next."""
         table, labels = translated(self._params, self._names, self._body, self._kept)
         return Machine(table, labels)
+
+    def rows_beside(self, names):
+        """The rows of the piece with slots for these names, too, ascending behind the params."""
+        found = {name: True for name in (*self._names, *names)}
+        table, _ = translated(self._params, sorted([str(name) for name in found]), self._body, self._kept)
+        return table

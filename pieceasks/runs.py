@@ -2,19 +2,7 @@
 
 from pieceasks.errors import InvalidBook
 from pieceasks.methods import is_answer
-from pieceasks.things import wrong_begin
-
-
-def check_begin(shape, begin):
-    """Makes sure that a begin has what is handed to a piece or code of this shape."""
-    params, kept = shape
-    at = wrong_begin(begin[:params], kept is not None)
-    if at is not None:
-        raise InvalidBook("begin", at)
-    if len(begin) < params:
-        raise InvalidBook("begin", len(begin))
-    if len(begin) > params:
-        raise InvalidBook("begin", params)
+from pieceasks.walks import check_begin
 
 
 class Run:

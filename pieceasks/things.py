@@ -21,7 +21,7 @@ def count_things(begin):
     many = 0
     for thing in begin:
         if thing == many:
-            many += 1
+            many = many + 1
     return many
 
 
@@ -33,7 +33,7 @@ def wrong_begin(begin, is_part):
             if thing < 0 or thing > many:
                 return at
             if thing == many:
-                many += 1
+                many = many + 1
         elif not is_part or not is_beside(thing):
             return at
     return None

@@ -521,3 +521,93 @@ class Walk:
             self.do_all(row[2])
             raise
         self.do_all(row[2])
+
+
+# A second way to compare pieces: all books, one after the other.
+
+DECLINING = "add sub mul radd rsub rmul iadd isub imul eq ne lt le gt ge".split()
+TRUTHS = "eq ne lt le gt ge contains exit".split()
+
+
+def answers_to(call, many, vows=()):
+    """All answers to a call where so many things came before, as promises say."""
+    method = call[0]
+    words = {"next": ("stop",), "bool": ("no", "yes"), "len": ("empty", "some")}.get(method, ())
+    if method in ("delitem", "setitem", "delattr", "setattr"):
+        words = ("done",)
+    if method in DECLINING and ("takes", method) not in vows:
+        words = ("declines",)
+    found = [(word,) for word in words]
+    things = list(range(many + 1))
+    if ("calm", method) not in vows:
+        found += [("raises", thing) for thing in things]
+    if method not in ("bool", "len", "delitem", "setitem", "delattr", "setattr"):
+        if method in TRUTHS:
+            things += ["True", "False"]
+        if ("truth", method) in vows:
+            things = ["True", "False"]
+        if ("itself", method) in vows:
+            things = [call[1]]
+        found += [("tells", thing) for thing in things]
+    return found
+
+
+class Undecided(Exception):
+    def __init__(self, key):
+        self.key = key
+
+
+class Lazy(Walk):
+    """A walk whose look-ups of the last moment are decided when they are made."""
+
+    def has(self, thing, method):
+        if isinstance(thing, str):
+            return False
+        looks = self.lackings[len(self.calls)]
+        if (method, thing) not in looks:
+            raise Undecided((method, thing))
+        return looks[method, thing]
+
+
+def lazy_outcomes(one, other, begin, answers, looks, vows):
+    """All outcomes of both behind these answers, with the look-ups that lead to them."""
+    try:
+        walks = [Lazy(piece, begin, answers, looks) for piece in (one, other)]
+        found = [(walk, walk.outcome()) for walk in walks]
+        return [(found[0][1], found[1][1], looks, len(found[0][0].calls))]
+    except Undecided as undecided:
+        method = undecided.key[0]
+        outcomes = []
+        for there in (True, False):
+            if ("bare" if there else "has", method) not in vows:
+                more = looks[:-1] + [{**looks[-1], undecided.key: there}]
+                outcomes += lazy_outcomes(one, other, begin, answers, more, vows)
+        return outcomes
+
+
+def all_begins(params, is_part):
+    """All begins for so many params."""
+    found = [()]
+    for _ in range(params):
+        found = [begin + (thing,) for begin in found
+                 for thing in [*range(len({part for part in begin if isinstance(part, int)}) + 1)]
+                 + (["None", "True", "False", "TypeError", "ValueError", "NameError", "unset"] if is_part else [])]
+    return found
+
+
+def least_parting(one, other, most, vows=()):
+    """The least number of answers, up to the most, on which both part; or None."""
+    rows = [(begin, [], [{}]) for begin in all_begins(len(one.params), one.kept is not None)]
+    for many in range(most + 1):
+        longer = []
+        for begin, answers, looks in rows:
+            for first, second, decided, calls in lazy_outcomes(one, other, begin, answers, looks, vows):
+                if first != second:
+                    return many
+                if first[0] in ("returns", "raises", "falls", "endless") or many == most:
+                    continue
+                things = {part for part in begin if isinstance(part, int)}
+                things |= {answer[1] for answer in answers if len(answer) == 2 and isinstance(answer[1], int)}
+                longer += [(begin, answers + [answer], decided + [{}]) for answer in answers_to(first, len(things), vows)]
+        rows = longer
+    return None

@@ -156,6 +156,8 @@ class LanguageTest(unittest.TestCase):
                             self.assertIsInstance(other, ast.Constant, (path, node.lineno))
                 if isinstance(node, ast.Call) and isinstance(node.func, ast.Name) and node.func.id in ("any", "all", "sorted"):
                     self.assertNotIsInstance(node.args[0], ast.GeneratorExp, (path, node.lineno))
+                if isinstance(node, ast.Call) and isinstance(node.func, ast.Name) and node.func.id == "reversed":
+                    self.assertIn(getattr(node.args[0].func, "id", ""), ("list", "tuple", "sorted", "range"), (path, node.lineno))
                 if isinstance(node, ast.Raise):
                     self.assertIsInstance(node.exc, ast.Call, (path, node.lineno))
 
@@ -221,7 +223,8 @@ class LanguageTest(unittest.TestCase):
     def test_interface(self):
         places = {"errors": ("AskError", "InvalidPiece", "InvalidText", "InvalidBook", "InvalidCode", "InvalidPromise", "Unlike",
                              "Misfit", "InvalidCommand", "NoPlace", "OtherShape", "UnknownName"),
-                  "pieces": ("Piece",), "runs": ("Run",)}
+                  "pieces": ("Piece",), "runs": ("Run",), "books": ("Book",), "codes": ("Code", "compiled"),
+                  "comparing": ("compare", "is_alike", "parts_on"), "promises": ("Promises",)}
         for path, tree in trees():
             there = {node.name for node in tree.body if isinstance(node, (ast.FunctionDef, ast.ClassDef))}
             for name in places.get(path.stem, ()):

@@ -2,6 +2,8 @@
 
 import unittest
 
+from pieceasks.books import METHODS, Book
+from pieceasks.codes import compiled
 from pieceasks.pieces import Piece
 from pieceasks.runs import Run
 
@@ -23,8 +25,10 @@ class Story(unittest.TestCase):
 
         An end has its word, its thing and what is kept.
         """
-        run = Run(Piece.read(text), words(begin))
+        piece = Piece.read(text)
+        run = Run(piece, words(begin))
         lines = [line.strip() for line in story.strip().split("\n")]
+        moments, behind, coming = [], (), None
         for line in lines:
             lacking, _, rest = line.rpartition("|")
             lacking = lacking_in(lacking)
@@ -32,10 +36,21 @@ class Story(unittest.TestCase):
                 end = words(rest.strip()[1:])
                 expected = end if len(end) == 1 else end[:2] + (end[2:],)
                 self.assertEqual(run.ask(lacking), expected, line)
+                behind, coming = lacking, expected
             else:
                 call, _, answer = rest.partition(":")
                 self.assertEqual(run.ask(lacking), words(call), line)
                 self.assertEqual(run.tell(words(answer), lacking), words(call), line)
+                came = {part for _, told in moments for part in told} | set(words(begin))
+                known = [pair for pair in lacking if pair[0] in METHODS and pair[1] in came]
+                moments.append((known, words(answer)))
+        # The piece is walked likewise, up to each moment, and so is its code.
+        book = Book(words(begin), moments, behind)
+        for walker in (piece, compiled(piece)):
+            for many, (lacking, answer) in enumerate(moments):
+                self.assertEqual(walker(book.upto(many)), (run.calls[:many], ("asks", run.calls[many][0])))
+            if coming is not None:
+                self.assertEqual(walker(book), (run.calls, coming))
         return run
 
 
