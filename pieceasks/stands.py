@@ -38,9 +38,9 @@ class Looker:
                 else:
                     if key not in looks and row[1] in self.fixed:
                         looks[key] = self.fixed[row[1]]
-                    if key not in looks:
+                    if key not in looks and row[3] != row[4]:
                         return self._parted(row, key, slots, looks, passed)
-                    goal = row[3] if looks[key] else row[4]
+                    goal = row[3] if looks.get(key, True) else row[4]
             else:
                 goal = step(row, at, slots, ())
             if goal <= at:

@@ -66,7 +66,7 @@ class CodeTest(unittest.TestCase):
         self.fails("goal", 0, 2, [], 3)
 
     def test_rows_that_are_none(self):
-        for odd in ODD + (("ends",), ("jump",), ["jump", 0], ("jump", 0, 0), ("end",), ("",), (0,), (None,), (("jump", 0),), "jump", ("Jump", 0),
+        for odd in ODD + (("ends",), ("jump",), ["jump", 0], ("jump", 0, 0), ("end",), ("",), (0,), (None,), (("jump", 0),), "jump", ("Jump", 0), ([0], 0), (["jump"], 0),
                           ("go", 0), ("unset",), ("nothing", 0)):
             self.fails("form", 0, 0, (odd, END))
             self.fails("form", 1, 0, (("jump", 2), odd, END))
@@ -130,6 +130,8 @@ class CodeTest(unittest.TestCase):
             self.fails("form", 1, 1, (has, ("ask", method, [0, *items], 0, right), END))
             self.fails("form", 1, 1, (has, ("ask", method, (), 0, right), END))
             self.fails("form", 1, 1, (has, ("ask", method, None, 0, right), END))
+            self.fails("form", 1, 1, (has, ("ask", method, (0,) + items, 0, right, 2), END))
+            self.fails("form", 1, 1, (has, ("ask", method, (0,) + items, 0), END))
         for word in ("w", ".", "..w", ".W", ".toolong", ".if", ".w ", ".w.v", "", None, ".None", [".w"]):
             self.fails("form", 1, 1, (("has", "getattr", 0, 1, 2), asking("getattr", 0, word), END))
         Code(1, (("has", "getattr", 0, 1, 2), asking("getattr", 0, ".abcdef"), END))

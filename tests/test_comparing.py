@@ -185,6 +185,39 @@ class CodesTest(Comparing):
         self.assertEqual(str(compare(Piece.read("params x\nreturn -x"), blind)), "begin 0")
         self.assertIsNone(compare(Code(0, (("jump", 0),)), Piece.read("params\nwhile True:\n pass")))
 
+    def test_rows_behind_a_call(self):
+        """Codes that make one call, and then differ in one item of one row."""
+        def code(*rows):
+            return Code(2, (("set", 0, 1, 3), ("has", "neg", 0, 2, 3), ("ask", "neg", (0,), 3, (("raises", 3), ("tells", 4))),
+                            ("end", "falls", "None", (0, 1)), *rows), 2)
+
+        yes, no = ("end", "returns", "None", (0, 1)), ("end", "raises", "None", (1, 0))
+
+        def asks(row):
+            goals = {"iter": (("raises", 7), ("tells", 7))}.get(row[1], (("declines", 7), ("raises", 7), ("tells", 7)))
+            return (("set", 1, 5, 7), ("has", row[1], 0, 6, 7), row + (goals,), ("end", "returns", "None", (0, 1)))
+
+        for one, other in (
+            ((("move", 1, 0), yes), (("move", 1, "None"), yes)), ((("move", 1, 0), yes), (("move", 0, 0), yes)),
+            ((("move", 1, 0), yes), (("move", 1, 3), yes)), ((("unset", 0), yes), (("unset", 1), yes)), ((yes,), (no,)),
+            ((("end", "returns", 0, (0, 1)),), (("end", "returns", 3, (0, 1)),)), ((("end", "returns", 0, (0, 1)),), (("end", "raises", 0, (0, 1)),)),
+            ((("end", "returns", 0, (0, 1)),), (("end", "returns", 0, (0, 0)),)), ((yes,), (("end", "returns", "None", (1, 0)),)),
+            ((("end", "returns", 0, (0, 3)),), (("end", "returns", 3, (0, 3)),)), ((("same", 0, 3, 5, 6), yes, no), (("same", 3, 3, 5, 6), yes, no)),
+            ((("kind", 0, 5, 6), yes, no), (("true", 0, 5, 6), yes, no)), ((("set", 0, 5, 6), yes, no), (("set", 1, 5, 6), yes, no)),
+            ((("has", "add", 0, 5, 6), yes, no), (("has", "sub", 0, 5, 6), yes, no)), ((("has", "add", 0, 5, 6), yes, no), (("has", "add", 3, 5, 6), yes, no)),
+            ((("set", 0, 5, 6), yes, no), (("set", 0, 6, 5), yes, no)), ((("jump", 4),), (yes,)), ((("jump", 5), yes), (("jump", 5), no)),
+            (asks(("ask", "add", (0, 1), 0)), asks(("ask", "add", (0, 0), 0))), (asks(("ask", "add", (0, 1), 0)), asks(("ask", "sub", (0, 1), 0))),
+        ):
+            first, second = code(*one), code(*other)
+            for left, right in ((first, second), (second, first)):
+                book = compare(left, right)
+                self.assertEqual(len(book), 1, (one, other))
+                self.assertTrue(parts_on(left, right, book))
+            self.assertIsNone(compare(first, code(*one)))
+        first, second = code(*asks(("ask", "add", (0, 1), 0))), code(*asks(("ask", "add", (0, 1), 1)))
+        self.assertEqual(len(compare(first, second)), 2)
+        self.assertIsNone(compare(code(yes), code(("jump", 5), ("jump", 6), yes)))
+
     def test_look_ups_that_lead_on_both_ways(self):
         """Rows that look up a method and go on with the same row either way."""
         def code(*goals):
