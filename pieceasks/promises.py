@@ -111,3 +111,14 @@ class Promises:
         if not _is_operand(other):
             return NotImplemented
         return Promises([pair for pair in _pairs_of(other) if pair not in self._pairs])
+
+    # Promises never change, so these give new ones, too.
+
+    def __ior__(self, other):
+        return self | other
+
+    def __iand__(self, other):
+        return self & other
+
+    def __isub__(self, other):
+        return self - other

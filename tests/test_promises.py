@@ -181,9 +181,12 @@ class SetsTest(unittest.TestCase):
                 with self.assertRaises(TypeError):
                     act(value)
         promises = one
-        with self.assertRaises(InvalidPromise):
+        with self.assertRaises(InvalidPromise) as caught:
             promises |= (("has", "add"),)
-        self.assertEqual(promises, one)
+        self.assertEqual((promises, str(one), caught.exception.at), (one, "bare add, calm neg", 2))
+        for value in (None, 0, "bare add"):
+            with self.assertRaises(TypeError):
+                promises &= value
 
 
 class KeptTest(unittest.TestCase):
