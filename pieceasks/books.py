@@ -1,7 +1,7 @@
 """Books: rows of answers on which pieces are walked."""
 
-from pieceasks.errors import InvalidBook, NoPlace
 from pieceasks.book_texts import book_lines, read_book
+from pieceasks.errors import InvalidBook, NoPlace
 from pieceasks.methods import is_some_answer
 from pieceasks.things import count_things, is_number, wrong_begin
 
