@@ -28,13 +28,17 @@ def begins(params, is_part):
     """All begins for so many params."""
     found = [()]
     for _ in range(params):
-        longer = []
-        for begin in found:
-            things = list(reversed(range(count_things(begin) + 1)))
-            if is_part:
-                things.extend([UNSET, *CONSTANTS, *ERRORS])
-            longer.extend([(*begin, thing) for thing in things])
-        found = longer
+        found = _longer_begins(found, is_part)
+    return found
+
+
+def _longer_begins(shorter, is_part):
+    """All begins that have one thing more than some of these."""
+    beside = [UNSET, *CONSTANTS, *ERRORS] if is_part else []
+    found = []
+    for begin in shorter:
+        things = [*list(range(count_things(begin), -1, -1)), *beside]
+        found.extend([(*begin, thing) for thing in things])
     return found
 
 

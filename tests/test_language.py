@@ -76,7 +76,100 @@ def is_plain(node):
     return False
 
 
+CHANGING = set("append clear extend insert pop remove reverse setdefault update add discard sort".split())
+GOING_OVER = ("enumerate", "zip", "reversed", "range", "map", "chain")
+
+
+def base(node):
+    """The text of what an expression belongs to: a name or a field, without its items."""
+    while isinstance(node, ast.Subscript):
+        node = node.value
+    return ast.unparse(node) if isinstance(node, (ast.Name, ast.Attribute)) else None
+
+
+def choices(node):
+    """The texts of what an expression may be, without being a copy."""
+    if isinstance(node, ast.IfExp):
+        return choices(node.body) + choices(node.orelse)
+    if isinstance(node, ast.BoolOp):
+        return [text for value in node.values for text in choices(value)]
+    if isinstance(node, ast.NamedExpr):
+        return choices(node.target) + choices(node.value)
+    text = base(node)
+    return [] if text is None else [text]
+
+
+def walked_over(node):
+    """The texts of what a loop over an expression goes over."""
+    if isinstance(node, ast.Call) and isinstance(node.func, ast.Name) and node.func.id in GOING_OVER:
+        return [text for part in node.args for text in walked_over(part)]
+    if isinstance(node, ast.Call) and isinstance(node.func, ast.Attribute) and node.func.attr in ("items", "keys", "values"):
+        return walked_over(node.func.value)
+    return choices(node)
+
+
+def changed_in(node):
+    """The texts of what is changed within a statement or expression, with the lines."""
+    for part in ast.walk(node):
+        if isinstance(part, ast.Call) and isinstance(part.func, ast.Attribute) and part.func.attr in CHANGING:
+            for text in choices(part.func.value):
+                yield text, part.lineno
+        targets = part.targets if isinstance(part, (ast.Assign, ast.Delete)) else [part.target] if isinstance(part, ast.AugAssign) else []
+        for target in targets:
+            for inner in ast.walk(target):
+                if isinstance(inner, ast.Subscript) or isinstance(part, ast.AugAssign) and inner is target:
+                    for text in choices(inner):
+                        yield text, part.lineno
+
+
+def same_names(function):
+    """For each text the texts that may stand for the same thing in a function."""
+    groups = {}
+    for part in ast.walk(function):
+        pairs = []
+        if isinstance(part, ast.Assign):
+            for target in part.targets:
+                if isinstance(target, ast.Tuple) and isinstance(part.value, ast.Tuple):
+                    pairs += zip(target.elts, part.value.elts)
+                else:
+                    pairs.append((target, part.value))
+        for target, value in pairs:
+            for one in choices(target):
+                for other in choices(value):
+                    joined = groups.get(one, {one}) | groups.get(other, {other})
+                    for text in joined:
+                        groups[text] = joined
+    return groups
+
+
+def changed_loops(tree):
+    """The lines at which something is changed that a loop or comprehension around goes over."""
+    for function in ast.walk(tree):
+        if not isinstance(function, ast.FunctionDef):
+            continue
+        groups = same_names(function)
+        for loop in ast.walk(function):
+            walks, inner = [], []
+            if isinstance(loop, ast.For):
+                walks, inner = [loop.iter], loop.body
+            elif isinstance(loop, (ast.ListComp, ast.SetComp, ast.DictComp, ast.GeneratorExp)):
+                walks, inner = [part.iter for part in loop.generators], [loop]
+            over = {other for walk in walks for text in walked_over(walk) for other in groups.get(text, {text})}
+            for part in inner:
+                for text, line in changed_in(part):
+                    if text in over:
+                        yield line
+
+
 class LanguageTest(unittest.TestCase):
+    def test_loops_do_not_change_what_they_go_over(self):
+        for path, tree in trees():
+            self.assertEqual(list(changed_loops(tree)), [], path)
+        for text, lines in (("for x in xs:\n  xs.append(x)", [3]), ("for x in list(xs):\n  xs.append(x)", []), ("for x in xs:\n  ys.append(x)", []),
+                            ("for x in xs:\n  ys = []\n  ys.extend(x)\n  xs = ys", [4]), ("for k, x in enumerate(self.xs):\n  self.xs[k] = 0", [3]),
+                            ("for k in d.items():\n  del d[k]", [3]), ("for x in xs or ys:\n  ys.pop()", [3]), ("return [xs.pop() for x in xs]", [2])):
+            self.assertEqual(list(changed_loops(ast.parse(f"def f(self, xs, ys, d):\n {text}"))), lines, text)
+
     def test_folder(self):
         for path in FOLDER.rglob("*"):
             if path.name == "__pycache__" or path.parent.name == "__pycache__":
