@@ -1,6 +1,6 @@
 """Which rows make a code."""
 
-from pieceasks.flows import changed_slot, count_slots, read_slots, ways
+from pieceasks.flows import count_slots, mask_of, nodes_of, read_slots, ways
 from pieceasks.methods import ANSWERS, counts_of
 from pieceasks.things import CONSTANTS, ERRORS, is_number
 from pieceasks.words import right_name
@@ -102,73 +102,94 @@ def wrong_row(params, rows, kept):
     for at, row in enumerate(rows):
         if not _is_row(row, kept is None):
             return "form", at
-        if any([goal < 0 or goal >= len(rows) for _, goal in ways(row, at)]):
+        if any([goal < 0 or goal >= len(rows) for goal in _goals(row, at)]):
             return "goal", at
         if row[0] == "end" and len(row[3]) != (kept or 0):
             return "kept", at
-    fates = _fates(rows, params, kept is None)
+    nodes = nodes_of(rows)
+    bits = _known_bits(nodes)
+    fates = _fates(nodes, bits, params, kept is None)
     for at, fate in enumerate(fates):
         if fate is None:
             return "astray", at
-    for at, row in enumerate(rows):
-        unset, known = fates[at]
-        if any([slot in unset for slot in read_slots(row)]):
+    for node, (at, (unset, known)) in zip(nodes, enumerate(fates)):
+        if mask_of(read_slots(node)) & unset:
             return "unset", at
-        if row[0] == "ask" and (row[1], row[2][0]) not in known:
+        if node[0] == "ask" and not bits.get((node[1], node[2][0]), 0) & known:
             return "lacks", at
     return None
 
 
-def _fates(rows, params, whole):
-    """For each row a pair of dicts, or None if it can't be come to.
+def _goals(row, at):
+    """The rows with which the row at a place goes on."""
+    if row[0] in ("move", "unset"):
+        return [at + 1]
+    return [goal for _, goal in ways(row)]
 
-    The first has the slots that may be unset there, the second the pairs of a method and a slot
-    whose thing has it there for sure.
+
+def _known_bits(nodes):
+    """A bit for each pair of a method and a slot that is looked up."""
+    bits = {}
+    for node in nodes:
+        # Constants and errors have no methods, so nothing is known of them.
+        if node[0] == "has" and not isinstance(node[2], str):
+            bits.setdefault((node[1], node[2]), 1 << len(bits))
+    return bits
+
+
+def _fates(nodes, bits, params, whole):
+    """For each node a pair of masks, or None if it can't be come to.
+
+    The first has the slots that may be unset there, the second the bits of the pairs of a method
+    and a slot whose thing has it there for sure.
     """
-    fates = [None for _ in rows]
-    unset = [slot for slot in range(count_slots(rows, params)) if slot >= params or not whole]
-    fates[0] = ({slot: True for slot in unset}, {})
+    fates = [None for _ in nodes]
+    fates[0] = (_open_slots(nodes, params, whole), 0)
+    of_slots = _bits_of_slots(bits)
     todo = [0]
     while todo:
         at = todo.pop()
-        for word, goal in ways(rows[at], at):
-            fate = _fate_behind(rows[at], word, fates[at])
+        for word, goal in ways(nodes[at]):
+            unset, known = _fate_behind(nodes[at], word, fates[at], bits, of_slots)
             if fates[goal] is not None:
-                fate = _met(fates[goal], fate)
-            if fate != fates[goal]:
-                fates[goal] = fate
+                unset, known = unset | fates[goal][0], known & fates[goal][1]
+            if (unset, known) != fates[goal]:
+                fates[goal] = (unset, known)
                 todo.append(goal)
     return fates
 
 
-def _fate_behind(row, word, fate):
-    """What is so behind a row that goes on behind a word."""
-    unset = {slot: True for slot in fate[0]}
-    known = {} if row[0] == "ask" else {pair: True for pair in fate[1]}
-    match row[0]:
+def _open_slots(nodes, params, whole):
+    """The mask of the slots that may be unset at the begin."""
+    found = (1 << count_slots(nodes, params)) - 1
+    for node in nodes:
+        found |= mask_of(read_slots(node))
+    return found & ~((1 << params) - 1) if whole else found
+
+
+def _bits_of_slots(bits):
+    """For each slot that is looked up the bits of its pairs."""
+    found = {}
+    for _, slot in bits:
+        found[slot] = sum([bit for (_, other), bit in bits.items() if other == slot])
+    return found
+
+
+def _fate_behind(node, word, fate, bits, of_slots):
+    """What is so behind a node that goes on behind a word."""
+    unset, known = fate
+    match node[0]:
         case "set":
-            _mark(unset, row[1], word == "no")
+            here = 1 << node[1]
+            return unset | here if word == "no" else unset & ~here, known
         case "has":
-            # Constants and errors have no methods, so nothing is known of them.
-            if word == "yes" and not isinstance(row[2], str):
-                known[(row[1], row[2])] = True
+            gained = bits.get((node[1], node[2]), 0) if word == "yes" else 0
+            return unset, known | gained
+        case "ask":
+            return unset & ~(1 << node[3]) if word in ("tells", "raises") else unset, 0
+        case "move":
+            return unset & ~(1 << node[1]), known & ~of_slots.get(node[1], 0)
+        case "unset":
+            return unset | 1 << node[1], known & ~of_slots.get(node[1], 0)
         case _:
-            changed = changed_slot(row, word)
-            _mark(unset, changed, row[0] == "unset")
-            known = {pair: True for pair in known if pair[1] != changed}
-    return unset, known
-
-
-def _mark(unset, slot, may):
-    """Notes whether a slot may be unset."""
-    if may:
-        unset[slot] = True
-    elif slot in unset:
-        del unset[slot]
-
-
-def _met(one, other):
-    """What is so where two ways meet."""
-    unset = {slot: True for slot in (*one[0], *other[0])}
-    known = {pair: True for pair in one[1] if pair in other[1]}
-    return unset, known
+            return unset, known

@@ -2,7 +2,8 @@
 
 from pieceasks.checks import wrong_row
 from pieceasks.errors import InvalidCode
-from pieceasks.flows import count_slots
+from pieceasks.flows import count_slots, nodes_of
+from pieceasks.graphs import laid_rows
 from pieceasks.machines import Machine
 from pieceasks.walks import walked
 
@@ -14,6 +15,8 @@ class Code:
         self._params = params
         self._rows = tuple(rows)
         self._kept = kept
+        self._machine = None
+        self._mark = ""
         wrong = wrong_row(params, self._rows, kept)
         if wrong is not None:
             word, row = wrong
@@ -48,13 +51,24 @@ class Code:
     def __call__(self, book):
         return walked(self.machine(), self.shape, book)
 
+    def mark(self):
+        """A string that no other code of the same shape has."""
+        if self._mark == "":
+            self._mark = repr(self._rows)
+        return self._mark
+
     def machine(self):
         """What goes through the code, from one call to the next."""
-        labels = tuple(range(count_slots(self._rows, self._params)))
-        return Machine(self._rows, labels)
+        if self._machine is None:
+            nodes = nodes_of(self._rows)
+            self._machine = Machine(nodes, 0, tuple(range(count_slots(nodes, self._params))))
+        return self._machine
 
 
 def compiled(piece):
     """Some code that does the same as a piece."""
-    params, kept = piece.shape
-    return Code(params, piece.machine().table, kept)
+    machine = piece.machine()
+    if machine.code is None:
+        params, kept = piece.shape
+        machine.code = Code(params, laid_rows(machine.nodes, machine.first), kept)
+    return machine.code

@@ -3,16 +3,23 @@
 from pieceasks.errors import InvalidBook, OtherShape
 from pieceasks.methods import is_answer
 from pieceasks.pieces import Piece
-from pieceasks.promises import Promises
+from pieceasks.promises import is_kept, vows_in
 from pieceasks.search import Search
+from pieceasks.stands import looker_of
+from pieceasks.twins import Twins
+from pieceasks.vows import fixed_looks
 from pieceasks.walks import check_begin
 
 
-def _tables(one, other):
-    """The rows of both; pieces with the same params get one slot for a name of both."""
+# So many results are kept of one piece.
+MOST_RESULTS = 200
+
+
+def _machines(one, other):
+    """The machines of both; pieces with the same params get one slot for a name of both."""
     if isinstance(one, Piece) and isinstance(other, Piece) and one.params == other.params:
-        return one.rows_beside(other.names), other.rows_beside(one.names)
-    return one.machine().table, other.machine().table
+        return one.machine_beside(other.names), other.machine_beside(one.names)
+    return one.machine(), other.machine()
 
 
 def _check_shapes(one, other):
@@ -24,9 +31,44 @@ def _check_shapes(one, other):
 def compare(one, other, promises=()):
     """None if both are alike under promises, else a least book that tells them apart."""
     _check_shapes(one, other)
-    vows = tuple(Promises(tuple(promises)))
-    first, second = _tables(one, other)
-    return Search(first, second, one.shape, vows).parting()
+    vows = vows_in(promises)
+    results = one.machine().results
+    key = (other.mark(), vows)
+    if key not in results:
+        found = _found_before(one, other, vows)
+        if len(results) >= MOST_RESULTS:
+            results.clear()
+        results[key] = found[0] if len(found) > 0 else _parting(one, other, vows)
+    return results[key]
+
+
+def _found_before(one, other, vows):
+    """What tells both apart by what was found out before, or does not, as the item of a list.
+
+    It is empty if nothing is known of this.
+    """
+    mark, mark_there = one.mark(), other.mark()
+    results, results_there = one.machine().results, other.machine().results
+    # A book tells both apart either way about.
+    if (mark, vows) in results_there:
+        return [results_there[(mark, vows)]]
+    plain = []
+    if (mark_there, ()) in results:
+        plain = [results[(mark_there, ())]]
+    elif (mark, ()) in results_there:
+        plain = [results_there[(mark, ())]]
+    # What is alike stays so under promises, and no book is shorter under these.
+    if plain == [] or plain == [None]:
+        return plain
+    return plain if all([is_kept(vows, piece, plain[0]) for piece in (one, other)]) else []
+
+
+def _parting(one, other, vows):
+    """A least book that tells both apart under promises, or None."""
+    machine, machine_there = _machines(one, other)
+    looks = fixed_looks(vows)
+    lookers = looker_of(machine, looks), looker_of(machine_there, looks)
+    return Search(*lookers, Twins(machine, machine_there), vows).parting(one.shape)
 
 
 def is_alike(one, other, promises=()):

@@ -1,13 +1,13 @@
-"""What statements do, as rows of a code.
+"""What statements do, as nodes.
 
-Each function puts rows and returns the number of the first one; then they go on at `then`.
+Each function puts nodes and returns the number of the first one; then they go on at `then`.
 The ways are a dict from "raise", "return" and, in a loop, "break" and "continue" to where
 these go on: what is raised lies in the slot `graph.thrown` then, what is returned in
 `graph.handed`. The slots from `base` on are free.
 """
 
 from pieceasks.forms import bodies
-from pieceasks.graphs import Graph, laid_rows
+from pieceasks.graphs import Graph
 from pieceasks.working import load, load_all, operand, operands, put_round, put_sum, put_truth
 
 IN_PLACE = {"+": "iadd", "-": "isub", "*": "imul"}
@@ -225,7 +225,10 @@ def _leavings(rows):
 
 
 def translated(params, names, body, kept):
-    """The rows of a piece, and the labels of its first slots: its params, then its other names."""
+    """The nodes of a piece, the number of the first one, and the labels of its first slots.
+
+    These are its params, then its other names.
+    """
     labels = (*params, *[name for name in names if name not in params])
     slots = {name: at for at, name in enumerate(labels)}
     thrown = len(labels)
@@ -235,4 +238,4 @@ def translated(params, names, body, kept):
     raised = graph.put("end", "raises", thrown, kept_slots)
     over = graph.put("end", "returns" if kept is None else "falls", "None", kept_slots)
     first = put_rows(graph, body, thrown + 2, over, {"raise": raised, "return": returned})
-    return laid_rows(graph.nodes, first), labels
+    return tuple(graph.nodes), first, labels

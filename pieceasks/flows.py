@@ -1,111 +1,148 @@
-"""Where the rows of a code go on, and which slots they read, look at and change."""
+"""Where the nodes of a code go on, and which slots they read, look at and change.
+
+Nodes are rows that tell all their goals, as numbers of nodes: a `move` and an `unset` have as
+their last item where they go on. Many slots together are a mask: a number in which a slot has the
+bit of its own number.
+"""
 
 from pieceasks.things import UNSET
 
-NO_SLOT = -1
+
+def nodes_of(rows):
+    """The nodes that the rows of a code are."""
+    return tuple([(*row, at + 1) if row[0] in ("move", "unset") else row for at, row in enumerate(rows)])
 
 
-def ways(row, at):
-    """With which rows the row at a place goes on, each behind a word.
+def ways(node):
+    """With which nodes a node goes on, each behind a word.
 
     The word is that of the answer to an `ask`, "yes" or "no" of a test, and else empty.
     """
-    match row[0]:
+    match node[0]:
         case "end":
             return ()
         case "ask":
-            return row[4]
-        case "move" | "unset":
-            return (("", at + 1),)
-        case "jump":
-            return (("", row[1]),)
+            return node[4]
+        case "move" | "unset" | "jump":
+            return (("", node[-1]),)
         case _:
-            return (("yes", row[-2]), ("no", row[-1]))
+            return (("yes", node[-2]), ("no", node[-1]))
 
 
-def operands_of(row):
-    """The operands that a row reads; words of attributes are among them."""
-    match row[0]:
+def operands_of(node):
+    """The operands that a node reads; words of attributes are among them."""
+    match node[0]:
         case "has" | "move":
-            return (row[2],)
+            return (node[2],)
         case "same":
-            return (row[1], row[2])
+            return (node[1], node[2])
         case "kind" | "true":
-            return (row[1],)
+            return (node[1],)
         case "ask":
-            return row[2]
+            return node[2]
         case "end":
-            return (row[2],)
+            return (node[2],)
         case _:
             return ()
 
 
-def read_slots(row):
-    """The slots that a row reads."""
-    return [part for part in operands_of(row) if not isinstance(part, str)]
+def read_slots(node):
+    """The slots that a node reads."""
+    return [part for part in operands_of(node) if not isinstance(part, str)]
 
 
-def seen_slots(row):
-    """The slots that a row reads or looks at."""
-    found = read_slots(row)
-    match row[0]:
+def seen_slots(node):
+    """The slots that a node reads or looks at."""
+    match node[0]:
         case "set":
-            return [row[1]]
+            return [node[1]]
         case "end":
-            return [*found, *row[3]]
+            return [*read_slots(node), *node[3]]
         case _:
-            return found
+            return read_slots(node)
 
 
-def changed_slot(row, word):
-    """The slot that a row changes when it goes on behind a word."""
-    match row[0]:
-        case "move" | "unset":
-            return row[1]
-        case "ask":
-            return row[3] if word in ("tells", "raises") else NO_SLOT
-        case _:
-            return NO_SLOT
-
-
-def count_slots(rows, many):
+def count_slots(nodes, many):
     """How many slots there are, of which the first so many lie open at the begin."""
-    for row in rows:
-        named = seen_slots(row)
-        for word, _ in ways(row, 0):
-            named.append(changed_slot(row, word))
+    for node in nodes:
+        match node[0]:
+            case "move" | "unset" | "set":
+                named = [node[1]]
+            case "ask":
+                named = [node[3]]
+            case "end":
+                named = node[3]
+            case _:
+                named = []
         for slot in named:
             if slot >= many:
                 many = slot + 1
     return many
 
 
-def wanted_slots(rows):
-    """For each row the slots that are wanted there, ascending."""
-    wanted = [{} for _ in rows]
-    todo = list(range(len(rows)))
-    before = [[] for _ in rows]
-    for at, row in enumerate(rows):
-        for _, goal in ways(row, at):
-            before[goal].append(at)
-    while todo:
-        at = todo.pop()
-        found = _wanted_at(rows[at], at, wanted)
-        if len(found) > len(wanted[at]):
-            wanted[at] = found
-            todo.extend(before[at])
-    return [tuple(sorted([int(slot) for slot in found])) for found in wanted]
+def mask_of(slots):
+    """The mask of some slots."""
+    mask = 0
+    for slot in slots:
+        mask |= 1 << slot
+    return mask
 
 
-def _wanted_at(row, at, wanted):
-    """The slots that are wanted at a row, as far as those of the rows behind it are known."""
-    found = {slot: True for slot in seen_slots(row)}
-    for word, goal in ways(row, at):
-        lost = changed_slot(row, word)
-        for slot in wanted[goal]:
-            if slot != lost:
-                found[slot] = True
-    return found
+def slots_in(mask):
+    """The slots of a mask, ascending."""
+    return tuple([slot for slot in range(mask.bit_length()) if mask >> slot & 1])
+
+
+def wanted_masks(nodes, first):
+    """For each node the slots that are wanted there."""
+    masks = []
+    onward = []
+    for node in nodes:
+        seen, goals = _needs(node)
+        masks.append(seen)
+        onward.append(goals)
+    # Nodes that are come to from the last one lie behind their goals, most of others ahead of them.
+    order = list(range(len(nodes)))
+    return spread(masks, onward, order if first > 0 else order[::-1])
+
+
+def _needs(node):
+    """The mask of what a node reads or looks at, and its goals with the masks of what is lost on the way."""
+    match node[0]:
+        case "move":
+            return 0 if isinstance(node[2], str) else 1 << node[2], ((node[3], 1 << node[1]),)
+        case "set":
+            return 1 << node[1], ((node[2], 0), (node[3], 0))
+        case "ask":
+            lost = 1 << node[3]
+            goals = [(goal, lost if word in ("tells", "raises") else 0) for word, goal in node[4]]
+            return mask_of(read_slots(node)), goals
+        case "unset":
+            return 0, ((node[2], 1 << node[1]),)
+        case "end":
+            return mask_of(seen_slots(node)), ()
+        case "jump":
+            return 0, ((node[1], 0),)
+        case _:
+            return mask_of(read_slots(node)), ((node[-2], 0), (node[-1], 0))
+
+
+def spread(masks, onward, order):
+    """Masks to which those of the goals are added, again and again, but for what is lost on the way.
+
+    For each number there are pairs of a goal and the mask of what is lost on the way there.
+    """
+    changes = True
+    while changes:
+        changes = False
+        for at in order:
+            mask = masks[at]
+            for goal, lost in onward[at]:
+                mask |= masks[goal] & ~lost
+            if mask != masks[at]:
+                masks[at] = mask
+                changes = True
+    return masks
 
 
 def slots_with(many, named, values):

@@ -1,15 +1,15 @@
-"""Rows of a code while a piece is translated.
+"""The nodes of a piece while it is translated, and how they are laid as the rows of a code.
 
-Each row has a number of its own here and tells where it goes on, a `move` and an `unset` too
-(as their last items). They are put from the end of the piece to its begin, so that the rows
-that others go on with are there already; only a loop is held open until its rows are put.
+Each node has a number of its own and tells where it goes on, a `move` and an `unset` too (as
+their last items). They are put from the end of the piece to its begin, so that the nodes that
+others go on with are there already; only a loop is held open until its nodes are put.
 """
 
 from pieceasks.methods import ANSWERS
 
 
 class Graph:
-    """The rows that were put so far."""
+    """The nodes that were put so far."""
 
     def __init__(self, slots, thrown, handed):
         self.slots = slots
@@ -19,7 +19,7 @@ class Graph:
         self.throws = {}
 
     def put(self, *node):
-        """Puts a row, and returns its number."""
+        """Puts a node, and returns its number."""
         self.nodes.append(node)
         return len(self.nodes) - 1
 

@@ -51,6 +51,9 @@ class Piece:
             _check_names("kept", self._kept)
         self._statements = _statements(self._body)
         self._names = _names_in(self._params, self._kept or (), self._statements)
+        # What is found out once it is asked for: machines, by the names for which they have slots.
+        self._machines = {}
+        self._mark = ""
 
     @classmethod
     def read(cls, text):
@@ -125,13 +128,26 @@ class Piece:
     def __call__(self, book):
         return walked(self.machine(), self.shape, book)
 
+    def mark(self):
+        """A string that no other piece has."""
+        if self._mark == "":
+            self._mark = str(self)
+        return self._mark
+
     def machine(self):
         """What goes through the piece, from one call to the next."""
-        table, labels = translated(self._params, self._names, self._body, self._kept)
-        return Machine(table, labels)
+        return self._machine_for(self._names)
 
-    def rows_beside(self, names):
-        """The rows of the piece with slots for these names, too, ascending behind the params."""
+    def machine_beside(self, names):
+        """A machine that has slots for these names, too, ascending behind the params."""
+        if names == self._names:
+            return self._machine_for(names)
         found = {name: True for name in (*self._names, *names)}
-        table, _ = translated(self._params, sorted([str(name) for name in found]), self._body, self._kept)
-        return table
+        return self._machine_for(tuple(sorted([str(name) for name in found])))
+
+    def _machine_for(self, names):
+        """The machine that has slots for these names."""
+        if names not in self._machines:
+            nodes, first, labels = translated(self._params, names, self._body, self._kept)
+            self._machines[names] = Machine(nodes, first, labels)
+        return self._machines[names]

@@ -5,11 +5,24 @@ from pieceasks.vows import ascending_vows, keeps_answer, keeps_look, vows_of, wr
 from pieceasks.walks import steps
 
 
-def _pairs_of(value):
+def vows_in(value):
     """The pairs of promises, or of a tuple or list of pairs, which must be some."""
     if isinstance(value, Promises):
         return value._pairs
     return Promises(value)._pairs
+
+
+def is_kept(vows, piece, book):
+    """Whether a piece or code keeps to promises on a book."""
+    machine = piece.machine()
+    found = steps(machine, piece.shape, book)
+    for _, looks in found:
+        if not all([keeps_look(vows, method, there) for method, there in looks]):
+            return False
+    for (state, _), (_, answer) in zip(found[:-1], book.moments):
+        if not keeps_answer(vows, machine.coming(state), answer):
+            return False
+    return True
 
 
 def _is_operand(value):
@@ -34,15 +47,7 @@ class Promises:
 
     def kept_by(self, piece, book):
         """Whether a piece or code keeps to these promises on a book."""
-        machine = piece.machine()
-        found = steps(machine, piece.shape, book)
-        for _, looks in found:
-            if not all([keeps_look(self._pairs, method, there) for method, there in looks]):
-                return False
-        for (state, _), (_, answer) in zip(found[:-1], book.moments):
-            if not keeps_answer(self._pairs, machine.coming(state), answer):
-                return False
-        return True
+        return is_kept(self._pairs, piece, book)
 
     def __str__(self):
         return ", ".join([" ".join(pair) for pair in self._pairs])
@@ -82,35 +87,35 @@ class Promises:
     def __or__(self, other):
         if not _is_operand(other):
             return NotImplemented
-        return Promises(ascending_vows((*self._pairs, *_pairs_of(other))))
+        return Promises(ascending_vows((*self._pairs, *vows_in(other))))
 
     def __ror__(self, other):
         if not _is_operand(other):
             return NotImplemented
-        return Promises(ascending_vows((*self._pairs, *_pairs_of(other))))
+        return Promises(ascending_vows((*self._pairs, *vows_in(other))))
 
     def __and__(self, other):
         if not _is_operand(other):
             return NotImplemented
-        pairs = _pairs_of(other)
+        pairs = vows_in(other)
         return Promises([pair for pair in self._pairs if pair in pairs])
 
     def __rand__(self, other):
         if not _is_operand(other):
             return NotImplemented
-        pairs = _pairs_of(other)
+        pairs = vows_in(other)
         return Promises([pair for pair in self._pairs if pair in pairs])
 
     def __sub__(self, other):
         if not _is_operand(other):
             return NotImplemented
-        pairs = _pairs_of(other)
+        pairs = vows_in(other)
         return Promises([pair for pair in self._pairs if pair not in pairs])
 
     def __rsub__(self, other):
         if not _is_operand(other):
             return NotImplemented
-        return Promises([pair for pair in _pairs_of(other) if pair not in self._pairs])
+        return Promises([pair for pair in vows_in(other) if pair not in self._pairs])
 
     # Promises never change, so these give new ones, too.
 

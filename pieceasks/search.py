@@ -1,18 +1,14 @@
-"""The search for a least book on which two codes part.
+"""The search for a least book on which two machines part.
 
-A state is a triple of a row of each code and the values of the slots that are wanted there, of
-the first code and then of the second one. Things are numbered in it from 0 in the order in which
+A state is a triple of a node of each machine and the values of the slots that are wanted there, of
+the first machine and then of the second one. Things are numbered in it from 0 in the order in which
 they occur, so that states that differ in the names of things alone are one.
 """
 
 from pieceasks.books import Book
-from pieceasks.methods import ANSWERS
-from pieceasks.stands import Looker, matches
+from pieceasks.stands import HOLE, matches
 from pieceasks.things import CONSTANTS, ERRORS, UNSET, count_things
-from pieceasks.twins import twin_classes
-from pieceasks.vows import allowed_answers, fixed_looks
-
-HOLE = "hole"
+from pieceasks.vows import allowed_answers
 
 
 def renumbered(values):
@@ -45,21 +41,21 @@ def _longer_begins(shorter, is_part):
 class Search:
     """A search that goes through the states by the number of answers it takes to come there."""
 
-    def __init__(self, one, other, shape, vows):
-        self._shape = shape
-        fixed = fixed_looks(vows)
-        self.sides = (Looker(one, shape[0], fixed), Looker(other, shape[0], fixed))
-        self.twins = twin_classes(one, other)
-        self.allowed = {method: allowed_answers(vows, method) for method in ANSWERS}
-        self.places = {}
+    def __init__(self, one, other, twins, vows):
+        self.one = one
+        self.other = other
+        self.twins = twins
+        self.vows = vows
+        self.allowed = {}
+        self.met = {}
         self.states = []
         # For each state the place of the one before, what was lacking there, the answer, and what
         # the things are numbered there; of one at the begin None and the begin ahead of that.
         self.steps = []
 
-    def parting(self):
-        """A least book on which both part, or None."""
-        for begin in begins(self._shape[0], self._shape[1] is not None):
+    def parting(self, shape):
+        """A least book on which both part, which have this shape, or None."""
+        for begin in begins(shape[0], shape[1] is not None):
             self._put_begin(begin)
         at = 0
         while at < len(self.states):
@@ -68,65 +64,52 @@ class Search:
                     return self._book(at, (*one[2], *other[2]))
                 if one[3] is not None:
                     self._answer(at, one, other)
-            at += 1
+            at = at + 1
         return None
 
     def _put_begin(self, begin):
         """Puts the state at a begin."""
-        values = []
-        for side in self.sides:
-            values.extend([begin[slot] if slot < len(begin) else UNSET for slot in side.wanted[0]])
-        self._put(0, 0, values, (None, (), begin))
+        held = self.one.held_first(begin)
+        held_there = self.other.held_first(begin)
+        self._put(held, held_there, (*held[1], *held_there[1]), (None, (), begin))
 
-    def _put(self, one, other, values, step):
-        """Puts a state, if it was not met before."""
+    def _put(self, held, held_there, values, step):
+        """Puts a state, if it was not met before and both may part behind it."""
+        many = len(held[1])
+        if values[:many] == values[many:] and self.twins.are(held[0], held_there[0]):
+            return
         known, numbers = renumbered(values)
-        state = (one, other, known)
-        if state not in self.places:
-            self.places[state] = len(self.states)
+        state = (held[0], held_there[0], known)
+        if state not in self.met:
+            self.met[state] = True
             self.states.append(state)
             self.steps.append((*step, numbers))
 
     def _leaves(self, state):
         """The pairs of what both may come to from a state at one moment."""
         one, other, values = state
-        first, second = self.sides
-        many = len(first.wanted[one])
+        many = len(self.one.wanted_at(one))
         found = []
-        matches(first.tree(one, values[:many]), second.tree(other, values[many:]), {}, found)
+        matches(self.one.tree(one, values[:many]), self.other.tree(other, values[many:]), {}, found)
         return found
 
     def _answer(self, at, one, other):
         """Puts the states behind all answers to a call that both make."""
         call = one[1]
-        first, second = [side.table[leaf[3]] for side, leaf in zip(self.sides, (one, other))]
+        if call[0] not in self.allowed:
+            self.allowed[call[0]] = allowed_answers(self.vows, call[0])
         lacking = (*one[2], *other[2])
-        for (word, goal), (_, goal_there), kind in zip(first[4], second[4], self.allowed[call[0]]):
-            if kind is None:
+        for held, held_there, (word, kind) in zip(one[3], other[3], self.allowed[call[0]]):
+            if kind is None or (held[1] == held_there[1] and self.twins.are(held[0], held_there[0])):
                 continue
-            thrown = kind != ""
-            values = self._held(0, one, goal, first[3] if thrown else None)
-            values_there = self._held(1, other, goal_there, second[3] if thrown else None)
-            if self.twins[0][goal] == self.twins[1][goal_there] and values == values_there:
+            values = (*held[1], *held_there[1])
+            if kind == "":
+                self._put(held, held_there, values, (at, lacking, (word,)))
                 continue
-            self._answer_by(at, lacking, (word, kind, call), (goal, goal_there), [*values, *values_there])
-
-    def _held(self, side, leaf, goal, to):
-        """The values of the slots that are wanted at a goal, with a hole at the slot `to`."""
-        slots = leaf[4]
-        return [HOLE if slot == to else slots[slot] for slot in self.sides[side].wanted[goal]]
-
-    def _answer_by(self, at, lacking, told, goals, values):
-        """Puts the states behind all answers with one word, which may fill holes in values."""
-        word, kind, call = told
-        one, other = goals
-        if kind == "":
-            self._put(one, other, values, (at, lacking, (word,)))
-            return
-        things = self._tellable(at, kind, call, values)
-        for thing in things if HOLE in values else things[:1]:
-            filled = [thing if value == HOLE else value for value in values]
-            self._put(one, other, filled, (at, lacking, (word, thing)))
+            things = self._tellable(at, kind, call, values)
+            for thing in things if HOLE in values else things[:1]:
+                filled = tuple([thing if value == HOLE else value for value in values])
+                self._put(held, held_there, filled, (at, lacking, (word, thing)))
 
     def _tellable(self, at, kind, call, values):
         """The things that may be told or raised; a new one is numbered like those of the state."""

@@ -1,68 +1,103 @@
-"""What a code does from a row on, whatever is looked up.
+"""What a code does from a node on, whatever is looked up.
 
 This is told by a tree: `("look", (method, thing), yes, no)` has a tree for each outcome of a
-look-up, and `("leaf", coming, lacking, at, slots)` the call or end that comes then, what was
-looked up and lacking, the row of the `ask` (None if it ends or goes on for ever), and the slots there.
+look-up, and `("leaf", coming, lacking, onward)` the call or end that comes then, what was looked up
+and lacking, and where each answer leads: None if it ends or goes on for ever, else for each first
+word a pair of a node and the values of the slots that are wanted there. What is told or raised is a
+hole in these.
 """
 
-from pieceasks.flows import count_slots, slots_with, wanted_slots
-from pieceasks.machines import coming_at, step, thing_of
+from pieceasks.flows import slots_with
+from pieceasks.machines import FREE_STEPS, advance, came_back, coming_at
+from pieceasks.things import UNSET
+
+HOLE = "hole"
+
+
+# So many lookers are kept of one machine.
+MOST_LOOKERS = 20
+
+
+def looker_of(machine, fixed):
+    """The looker of a machine with these fixed methods, which is kept for later."""
+    key = tuple(fixed.items())
+    if key not in machine.lookers:
+        if len(machine.lookers) >= MOST_LOOKERS:
+            machine.lookers.clear()
+        machine.lookers[key] = Looker(machine, fixed)
+    return machine.lookers[key]
 
 
 class Looker:
-    """A code whose look-ups are gone through, and the methods of which these are fixed."""
+    """A machine whose look-ups are gone through, and the methods of which these are fixed."""
 
-    def __init__(self, table, params, fixed):
-        self.table = table
-        self.wanted = wanted_slots(table)
-        self.room = count_slots(table, params)
+    def __init__(self, machine, fixed):
+        self.source = machine
         self.fixed = fixed
         self.trees = {}
+        self.slots_at = {}
+
+    def wanted_at(self, at):
+        """The slots that are wanted at a node, ascending."""
+        if at not in self.slots_at:
+            self.slots_at[at] = self.source.wanted_at(at)
+        return self.slots_at[at]
+
+    def held_first(self, begin):
+        """The first node, and the values of the slots that are wanted there at a begin."""
+        at = self.source.first
+        return at, tuple([begin[slot] if slot < len(begin) else UNSET for slot in self.wanted_at(at)])
 
     def tree(self, at, values):
-        """What is done from a row on, where the wanted slots have these values."""
+        """What is done from a node on, where the wanted slots have these values."""
         key = (at, values)
         if key not in self.trees:
-            slots = slots_with(self.room, self.wanted[at], values)
+            slots = slots_with(self.source.room, self.wanted_at(at), values)
             self.trees[key] = self._grown(at, slots, {}, {})
         return self.trees[key]
 
     def _grown(self, at, slots, looks, passed):
-        """The tree from a row on, where these look-ups were made, and these rows and slots passed."""
-        while self.table[at][0] not in ("ask", "end"):
-            row = self.table[at]
-            if row[0] == "has":
-                key = (row[1], thing_of(row[2], slots))
-                if isinstance(key[1], str):
-                    goal = row[4]
-                else:
-                    if key not in looks and row[1] in self.fixed:
-                        looks[key] = self.fixed[row[1]]
-                    if key not in looks and row[3] != row[4]:
-                        return self._parted(row, key, slots, looks, passed)
-                    goal = row[3] if looks.get(key, True) else row[4]
+        """The tree from a node on, where these look-ups were made, and these nodes and slots passed."""
+        nodes = self.source.nodes
+        steps = 0
+        at = advance(nodes, at, slots, passed)
+        while at is not None and nodes[at][0] == "has":
+            _, method, operand, yes, no = nodes[at]
+            key = (method, slots[operand])
+            if key not in looks:
+                if method in self.fixed:
+                    looks[key] = self.fixed[method]
+                elif yes != no:
+                    return self._parted(nodes[at], key, slots, looks, passed)
+            at = yes if looks.get(key, True) else no
+            steps = steps + 1
+            if steps > FREE_STEPS and came_back(at, slots, passed):
+                at = None
             else:
-                goal = step(row, at, slots, ())
-            if goal <= at:
-                mark = (goal, tuple(slots))
-                if mark in passed:
-                    return _leaf(("endless",), looks, None, slots)
-                passed[mark] = True
-            at = goal
-        row = self.table[at]
-        return _leaf(coming_at(row, slots), looks, at if row[0] == "ask" else None, slots)
+                at = advance(nodes, at, slots, passed)
+        return self._leaf(at, slots, looks)
 
-    def _parted(self, row, key, slots, looks, passed):
+    def _parted(self, node, key, slots, looks, passed):
         """The tree for a look-up that may turn out either way."""
-        yes = self._grown(row[3], list(slots), {**looks, key: True}, {mark: True for mark in passed})
-        no = self._grown(row[4], list(slots), {**looks, key: False}, {mark: True for mark in passed})
+        yes = self._grown(node[3], list(slots), {**looks, key: True}, {mark: True for mark in passed})
+        no = self._grown(node[4], list(slots), {**looks, key: False}, {mark: True for mark in passed})
         return "look", key, yes, no
 
+    def _leaf(self, at, slots, looks):
+        """What is come to behind look-ups."""
+        lacking = tuple([key for key in looks if not looks[key]])
+        if at is None:
+            return "leaf", ("endless",), lacking, None
+        node = self.source.nodes[at]
+        onward = None
+        if node[0] == "ask":
+            onward = tuple([(goal, self._held(node, word, goal, slots)) for word, goal in node[4]])
+        return "leaf", coming_at(node, slots), lacking, onward
 
-def _leaf(coming, looks, at, slots):
-    """What is come to behind look-ups."""
-    lacking = tuple([key for key in looks if not looks[key]])
-    return "leaf", coming, lacking, at, tuple(slots)
+    def _held(self, node, word, goal, slots):
+        """The values of the slots that are wanted at a goal behind a word."""
+        to = node[3] if word in ("tells", "raises") else None
+        return tuple([HOLE if slot == to else slots[slot] for slot in self.wanted_at(goal)])
 
 
 def matches(one, other, looks, found):

@@ -1,52 +1,68 @@
-"""Rows of two codes that do the same from there on, slot by slot."""
+"""Nodes of two machines that do the same from there on, slot by slot."""
 
 from pieceasks.flows import ways
 
 
-def _settled(rows, at):
-    """The row that is come to behind jumps, or a jump if there are nothing but jumps."""
+def _settled(nodes, at):
+    """The node that is come to behind jumps, or a jump if there are nothing but jumps."""
     passed = []
-    while rows[at][0] == "jump" and at not in passed:
+    while nodes[at][0] == "jump" and at not in passed:
         passed.append(at)
-        at = rows[at][1]
+        at = nodes[at][1]
     return at
 
 
-def _own(row):
-    """A row without its goals."""
-    match row[0]:
+def _own(node):
+    """A node without its goals."""
+    match node[0]:
         case "ask":
-            return row[:4]
-        case "move" | "unset" | "end":
-            return row
+            return node[:4]
+        case "move" | "unset":
+            return node[:-1]
         case "jump":
-            return row[:1]
+            return node[:1]
+        case "end":
+            return node
         case _:
-            return row[:-2]
+            return node[:-2]
 
 
-def twin_classes(one, other):
-    """Two lists of numbers, which are equal only for rows that do the same from there on."""
-    rows = []
-    for table in (one, other):
-        start = len(rows)
-        for at, row in enumerate(table):
-            goals = [start + _settled(table, goal) for _, goal in ways(row, at)]
-            rows.append((_own(row), goals))
-    classes = _numbered([own for own, _ in rows])
-    many = 0
-    while many < len(set(classes)):
-        many = len(set(classes))
-        classes = _numbered([
-            (classes[at], tuple([classes[goal] for goal in goals])) for at, (_, goals) in enumerate(rows)
-        ])
-    return classes[:len(one)], classes[len(one):]
+class Twins:
+    """Two machines of which it is asked, again and again, which nodes do the same."""
 
+    def __init__(self, one, other):
+        self.one = one.nodes
+        self.other = other.nodes
+        self.known = {}
 
-def _numbered(values):
-    """A number for each value, equal ones for equal values."""
-    numbers = {}
-    for value in values:
-        if value not in numbers:
-            numbers[value] = len(numbers)
-    return [numbers[value] for value in values]
+    def are(self, at, there):
+        """Whether two nodes do the same from there on, as far as this is seen by their slots."""
+        pair = (at, there)
+        if pair not in self.known:
+            self.known[pair] = self._agree((_settled(self.one, at), _settled(self.other, there)))
+        return self.known[pair]
+
+    def _agree(self, first):
+        """Whether the nodes of a pair are twins: all pairs that are come to are if no two nodes differ."""
+        ahead = {first: None}
+        todo = [first]
+        while todo:
+            pair = todo.pop()
+            node, node_there = self.one[pair[0]], self.other[pair[1]]
+            if not self.known.get(pair, True) or _own(node) != _own(node_there):
+                self._part(pair, ahead)
+                return False
+            for (_, goal), (_, goal_there) in zip(ways(node), ways(node_there)):
+                onward = (_settled(self.one, goal), _settled(self.other, goal_there))
+                if onward not in ahead and not self.known.get(onward, False):
+                    ahead[onward] = pair
+                    todo.append(onward)
+        for pair in ahead:
+            self.known[pair] = True
+        return True
+
+    def _part(self, pair, ahead):
+        """Notes that a pair are no twins, nor are those from which it was come to."""
+        while pair is not None:
+            self.known[pair] = False
+            pair = ahead[pair]

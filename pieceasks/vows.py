@@ -78,7 +78,7 @@ def fixed_looks(vows):
 
 
 def allowed_answers(vows, method):
-    """What the answers to a method may be: for each first word which things it tells or raises.
+    """What the answers to a method may be: pairs of a first word and which things it tells or raises.
 
     These are "some" (that came before or are new), "all" (True and False, too), "truth" (True
     and False alone), "own" (that whose method it is), "" (none), or None if there is no such answer.
@@ -92,7 +92,7 @@ def allowed_answers(vows, method):
             kind = None if ("takes", method) in vows else ""
         elif word == "tells":
             kind = _told_kind(vows, method)
-        found.append(kind)
+        found.append((word, kind))
     return tuple(found)
 
 
