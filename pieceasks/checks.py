@@ -1,6 +1,6 @@
 """Which rows make a code."""
 
-from pieceasks.flows import count_slots, mask_of, nodes_of, read_slots, ways
+from pieceasks.flows import count_slots, goal_pairs, mask_of, nodes_of, read_slots
 from pieceasks.methods import ANSWERS, counts_of
 from pieceasks.things import CONSTANTS, ERRORS, is_number
 from pieceasks.words import right_name
@@ -124,7 +124,7 @@ def _goals(row, at):
     """The rows with which the row at a place goes on."""
     if row[0] in ("move", "unset"):
         return [at + 1]
-    return [goal for _, goal in ways(row)]
+    return [goal for _, goal in goal_pairs(row)]
 
 
 def _known_bits(nodes):
@@ -149,7 +149,7 @@ def _fates(nodes, bits, params, whole):
     todo = [0]
     while todo:
         at = todo.pop()
-        for word, goal in ways(nodes[at]):
+        for word, goal in goal_pairs(nodes[at]):
             unset, known = _fate_behind(nodes[at], word, fates[at], bits, of_slots)
             if fates[goal] is not None:
                 unset, known = unset | fates[goal][0], known & fates[goal][1]

@@ -5,9 +5,6 @@ from pieceasks.methods import is_answer
 from pieceasks.pieces import Piece
 from pieceasks.promises import is_kept, vows_in
 from pieceasks.search import Search
-from pieceasks.stands import looker_of
-from pieceasks.twins import Twins
-from pieceasks.vows import fixed_looks
 from pieceasks.walks import check_begin
 
 
@@ -22,7 +19,7 @@ def _machines(one, other):
     return one.machine(), other.machine()
 
 
-def _check_shapes(one, other):
+def check_shapes(one, other):
     """Makes sure that both have one shape."""
     if one.shape != other.shape:
         raise OtherShape()
@@ -30,7 +27,7 @@ def _check_shapes(one, other):
 
 def compare(one, other, promises=()):
     """None if both are alike under promises, else a least book that tells them apart."""
-    _check_shapes(one, other)
+    check_shapes(one, other)
     vows = vows_in(promises)
     results = one.machine().results
     key = (other.mark(), vows)
@@ -66,9 +63,7 @@ def _found_before(one, other, vows):
 def _parting(one, other, vows):
     """A least book that tells both apart under promises, or None."""
     machine, machine_there = _machines(one, other)
-    looks = fixed_looks(vows)
-    lookers = looker_of(machine, looks), looker_of(machine_there, looks)
-    return Search(*lookers, Twins(machine, machine_there), vows).parting(one.shape)
+    return Search(machine, machine_there, vows).parting(one.shape)
 
 
 def is_alike(one, other, promises=()):
@@ -78,7 +73,7 @@ def is_alike(one, other, promises=()):
 
 def parts_on(one, other, book):
     """Whether both part on a book."""
-    _check_shapes(one, other)
+    check_shapes(one, other)
     check_begin(one.shape, book.begin)
     machines = [one.machine(), other.machine()]
     states = [machine.start(book.begin) for machine in machines]

@@ -13,7 +13,7 @@ def nodes_of(rows):
     return tuple([(*row, at + 1) if row[0] in ("move", "unset") else row for at, row in enumerate(rows)])
 
 
-def ways(node):
+def goal_pairs(node):
     """With which nodes a node goes on, each behind a word.
 
     The word is that of the answer to an `ask`, "yes" or "no" of a test, and else empty.
@@ -27,6 +27,15 @@ def ways(node):
             return (("", node[-1]),)
         case _:
             return (("yes", node[-2]), ("no", node[-1]))
+
+
+def settled(nodes, at):
+    """The node that is come to behind jumps, or a jump if there are nothing but jumps."""
+    passed = []
+    while nodes[at][0] == "jump" and at not in passed:
+        passed.append(at)
+        at = nodes[at][1]
+    return at
 
 
 def operands_of(node):
@@ -95,15 +104,12 @@ def slots_in(mask):
 
 def wanted_masks(nodes, first):
     """For each node the slots that are wanted there."""
-    masks = []
-    onward = []
-    for node in nodes:
-        seen, goals = _needs(node)
-        masks.append(seen)
-        onward.append(goals)
-    # Nodes that are come to from the last one lie behind their goals, most of others ahead of them.
-    order = list(range(len(nodes)))
-    return spread(masks, onward, order if first > 0 else order[::-1])
+    return _spread([_needs(node) for node in nodes], first)
+
+
+def needed_masks(nodes, first):
+    """For each node the slots that some way from there reads, without a `set` that tells yes of them."""
+    return _spread([_sure_needs(node) for node in nodes], first)
 
 
 def _needs(node):
@@ -127,17 +133,31 @@ def _needs(node):
             return mask_of(read_slots(node)), ((node[-2], 0), (node[-1], 0))
 
 
-def spread(masks, onward, order):
-    """Masks to which those of the goals are added, again and again, but for what is lost on the way.
+def _sure_needs(node):
+    """The same for what must be set there: what a node reads alone, and a `set` finds what is set."""
+    seen, goals = _needs(node)
+    match node[0]:
+        case "set":
+            return 0, ((node[2], 1 << node[1]), (node[3], 0))
+        case "end":
+            return mask_of(read_slots(node)), ()
+        case _:
+            return seen, goals
 
-    For each number there are pairs of a goal and the mask of what is lost on the way there.
-    """
+
+def _spread(needs, first):
+    """Masks to which those of the goals are added, again and again, but for what is lost on the way."""
+    masks = [seen for seen, _ in needs]
+    # Nodes that are come to from the last one lie behind their goals, most of others ahead of them.
+    order = list(range(len(needs)))
+    if first == 0:
+        order = order[::-1]
     changes = True
     while changes:
         changes = False
         for at in order:
             mask = masks[at]
-            for goal, lost in onward[at]:
+            for goal, lost in needs[at][1]:
                 mask |= masks[goal] & ~lost
             if mask != masks[at]:
                 masks[at] = mask

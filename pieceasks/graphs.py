@@ -5,6 +5,7 @@ their last items). They are put from the end of the piece to its begin, so that 
 others go on with are there already; only a loop is held open until its nodes are put.
 """
 
+from pieceasks.flows import goal_pairs, settled
 from pieceasks.methods import ANSWERS
 
 
@@ -62,36 +63,12 @@ class Graph:
         return self.ask(method, given, to, goals, self.throw("TypeError", ways), ways)
 
 
-def _settled(nodes, number):
-    """The row that is come to behind jumps, or a jump if there are nothing but jumps."""
-    passed = []
-    while nodes[number][0] == "jump" and number not in passed:
-        passed.append(number)
-        number = nodes[number][1]
-    return number
-
-
-def _goals(nodes, number):
-    """The numbers of the rows with which a row goes on."""
-    node = nodes[number]
-    match node[0]:
-        case "end":
-            found = []
-        case "ask":
-            found = [goal for _, goal in node[4]]
-        case "jump" | "move" | "unset":
-            found = [node[-1]]
-        case _:
-            found = [node[-2], node[-1]]
-    return [_settled(nodes, goal) for goal in found]
-
-
-def _chain_goals(nodes, number, places, order):
-    """Lays a row and those that must follow it; returns the goals that may lie anywhere."""
-    while number not in places:
-        places[number] = len(order)
+def _chain_goals(nodes, number, laid, order):
+    """Lays a node and those that must follow it; returns the goals that may lie anywhere."""
+    while number not in laid:
+        laid[number] = len(order)
         order.append(nodes[number])
-        goals = _goals(nodes, number)
+        goals = [settled(nodes, goal) for _, goal in goal_pairs(nodes[number])]
         if nodes[number][0] not in ("move", "unset"):
             return goals
         number = goals[0]
@@ -99,30 +76,30 @@ def _chain_goals(nodes, number, places, order):
     return []
 
 
-def _with_places(nodes, node, places):
-    """A row whose goals are told by places."""
+def _row_of(nodes, node, laid):
+    """The row that a node is, whose goals are told by the places where they are laid."""
     match node[0]:
         case "end":
             return node
         case "move" | "unset":
             return node[:-1]
         case "jump":
-            return ("jump", places[_settled(nodes, node[1])])
+            return ("jump", laid[settled(nodes, node[1])])
         case "ask":
-            pairs = [(word, places[_settled(nodes, goal)]) for word, goal in node[4]]
+            pairs = [(word, laid[settled(nodes, goal)]) for word, goal in node[4]]
             return (*node[:4], tuple(pairs))
         case _:
             yes, no = node[-2], node[-1]
-            return (*node[:-2], places[_settled(nodes, yes)], places[_settled(nodes, no)])
+            return (*node[:-2], laid[settled(nodes, yes)], laid[settled(nodes, no)])
 
 
 def laid_rows(nodes, first):
-    """The rows that can be come to from the first one, as a code has them."""
-    places = {}
+    """The nodes that can be come to from the first one, as the rows of a code."""
+    laid = {}
     order = []
-    todo = [_settled(nodes, first)]
+    todo = [settled(nodes, first)]
     while todo:
         number = todo.pop()
-        if number not in places:
-            todo.extend(_chain_goals(nodes, number, places, order))
-    return tuple([_with_places(nodes, node, places) for node in order])
+        if number not in laid:
+            todo.extend(_chain_goals(nodes, number, laid, order))
+    return tuple([_row_of(nodes, node, laid) for node in order])

@@ -1,15 +1,6 @@
 """Nodes of two machines that do the same from there on, slot by slot."""
 
-from pieceasks.flows import ways
-
-
-def _settled(nodes, at):
-    """The node that is come to behind jumps, or a jump if there are nothing but jumps."""
-    passed = []
-    while nodes[at][0] == "jump" and at not in passed:
-        passed.append(at)
-        at = nodes[at][1]
-    return at
+from pieceasks.flows import goal_pairs, settled
 
 
 def _own(node):
@@ -39,7 +30,7 @@ class Twins:
         """Whether two nodes do the same from there on, as far as this is seen by their slots."""
         pair = (at, there)
         if pair not in self.known:
-            self.known[pair] = self._agree((_settled(self.one, at), _settled(self.other, there)))
+            self.known[pair] = self._agree((settled(self.one, at), settled(self.other, there)))
         return self.known[pair]
 
     def _agree(self, first):
@@ -52,8 +43,8 @@ class Twins:
             if not self.known.get(pair, True) or _own(node) != _own(node_there):
                 self._part(pair, ahead)
                 return False
-            for (_, goal), (_, goal_there) in zip(ways(node), ways(node_there)):
-                onward = (_settled(self.one, goal), _settled(self.other, goal_there))
+            for (_, goal), (_, goal_there) in zip(goal_pairs(node), goal_pairs(node_there)):
+                onward = (settled(self.one, goal), settled(self.other, goal_there))
                 if onward not in ahead and not self.known.get(onward, False):
                     ahead[onward] = pair
                     todo.append(onward)
