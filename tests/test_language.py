@@ -38,6 +38,23 @@ FORBIDDEN_NODES = (
     ast.Global, ast.AsyncFunctionDef, ast.Await, ast.AsyncFor, ast.AsyncWith, ast.Import, ast.FloorDiv, ast.Div, ast.Try, ast.AnnAssign)
 
 
+# The classes and functions of the document (None) by modules, with the methods and properties of the classes.
+INTERFACE = {
+    "errors": {"AskError": "", "InvalidPiece": "", "InvalidText": "", "InvalidBook": "", "InvalidCode": "", "InvalidPromise": "", "Unlike": "", "Misfit": "",
+               "InvalidCommand": "", "NoPlace": "", "OtherShape": "", "UnknownName": ""},
+    "pieces": {"Piece": "read is_name params kept body shape names __str__ __len__ __getitem__ __contains__ __iter__ __add__ __radd__ __eq__ __call__"},
+    "books": {"Book": "read of begin moments lacking upto packed __str__ __len__ __add__ __eq__ __lt__ __le__ __gt__ __ge__"},
+    "runs": {"Run": "ask tell calls back held __len__"}, "codes": {"Code": "params rows kept shape __len__ __call__ __eq__", "compiled": None},
+    "comparing": {"compare": None, "is_alike": None, "parts_on": None}, "papers": {"paper_of": None, "paper_holds": None},
+    "promises": {"Promises": "read kept_by __str__ __len__ __contains__ __iter__ __eq__ __le__ __lt__ __ge__ __gt__ __or__ __ror__ __and__ __rand__ __sub__ __rsub__ "
+                             "__ior__ __iand__ __isub__"},
+    "needs": {"least_promises": None, "needed": None}, "parts": {"wanted": None, "part": None, "exchanged": None, "idle": None},
+    "rules": {"Rule": "parting places used old new __invert__ __eq__"},
+    "drafts": {"Draft": "piece lay take_out undo trial __getitem__ __setitem__ __iadd__ __len__", "Trial": "keep __enter__ __exit__", "within": None},
+    "shelves": {"Shelf": "drop compare groups __setitem__ __getitem__ __contains__ __len__ __iter__"}, "desk": {"Desk": "say"},
+}
+
+
 def trees():
     for path in FILES:
         yield path, ast.parse(path.read_text(encoding="ascii"))
@@ -314,14 +331,47 @@ class LanguageTest(unittest.TestCase):
                     self.assertIn(node.func.attr, known, (path, node.lineno))
 
     def test_interface(self):
-        places = {"errors": ("AskError", "InvalidPiece", "InvalidText", "InvalidBook", "InvalidCode", "InvalidPromise", "Unlike",
-                             "Misfit", "InvalidCommand", "NoPlace", "OtherShape", "UnknownName"),
-                  "pieces": ("Piece",), "runs": ("Run",), "books": ("Book",), "codes": ("Code", "compiled"),
-                  "comparing": ("compare", "is_alike", "parts_on"), "promises": ("Promises",)}
-        for path, tree in trees():
-            there = {node.name for node in tree.body if isinstance(node, (ast.FunctionDef, ast.ClassDef))}
-            for name in places.get(path.stem, ()):
+        """What the document lists is defined in the very file, and each method in the very class."""
+        for module, names in INTERFACE.items():
+            tree = ast.parse((FOLDER / f"{module}.py").read_text())
+            there = {node.name: node for node in tree.body if isinstance(node, (ast.FunctionDef, ast.ClassDef))}
+            for name, methods in names.items():
                 self.assertIn(name, there)
+                if methods is None:
+                    self.assertIsInstance(there[name], ast.FunctionDef)
+                    continue
+                own = {node.name for node in there[name].body if isinstance(node, ast.FunctionDef)}
+                self.assertLessEqual(set(methods.split()), own, name)
+
+    def test_stars_in_calls(self):
+        for path, tree in trees():
+            for node in ast.walk(tree):
+                if isinstance(node, ast.Call):
+                    for part in node.args:
+                        if isinstance(part, ast.Starred):
+                            self.assertIsInstance(part.value, (ast.Name, ast.Attribute), (path, node.lineno))
+
+    def test_generators(self):
+        """No other function or method has a generator's name, and nothing is called by it here."""
+        made = {node.name for _, tree in trees() for node in ast.walk(tree) if isinstance(node, ast.FunctionDef)
+                if any(isinstance(part, (ast.Yield, ast.YieldFrom)) for part in ast.walk(node))}
+        self.assertEqual(made, {"idle", "places"})
+        for path, tree in trees():
+            names = [node.name for node in ast.walk(tree) if isinstance(node, ast.FunctionDef) and node.name in made]
+            self.assertEqual(names, {"parts": ["idle"], "rules": ["places"]}.get(path.stem, []))
+            for node in ast.walk(tree):
+                self.assertNotIn(getattr(node, "attr", None), made, path)
+                self.assertFalse(isinstance(node, ast.Name) and node.id in made, (path, getattr(node, "lineno", 0)))
+
+    def test_leaving_a_block(self):
+        """The rows of `__exit__` are plain assignments, and tests of names and fields against None."""
+        for path, tree in trees():
+            for node in ast.walk(tree):
+                if isinstance(node, ast.FunctionDef) and node.name == "__exit__":
+                    for part in ast.walk(node):
+                        self.assertNotIsInstance(part, (ast.Call, ast.For, ast.While, ast.Raise, ast.Subscript, ast.BinOp), (path, node.lineno))
+                        if isinstance(part, ast.Compare):
+                            self.assertIsInstance(part.comparators[0], ast.Constant)
 
 
 if __name__ == "__main__":
