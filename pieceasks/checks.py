@@ -1,6 +1,6 @@
 """Which rows make a code."""
 
-from pieceasks.flows import count_slots, goal_pairs, mask_of, nodes_of, read_slots
+from pieceasks.flows import goal_pairs, mask_of, nodes_of, read_slots
 from pieceasks.methods import ANSWERS, counts_of
 from pieceasks.things import CONSTANTS, ERRORS, is_number
 from pieceasks.words import right_name
@@ -112,7 +112,8 @@ def wrong_row(params, rows, kept):
     for at, fate in enumerate(fates):
         if fate is None:
             return "astray", at
-    for node, (at, (unset, known)) in zip(nodes, enumerate(fates)):
+    for at, (node, fate) in enumerate(zip(nodes, fates)):
+        unset, known = fate
         if mask_of(read_slots(node)) & unset:
             return "unset", at
         if node[0] == "ask" and not bits.get((node[1], node[2][0]), 0) & known:
@@ -160,10 +161,8 @@ def _fates(nodes, bits, params, whole):
 
 
 def _open_slots(nodes, params, whole):
-    """The mask of the slots that may be unset at the begin."""
-    found = (1 << count_slots(nodes, params)) - 1
-    for node in nodes:
-        found |= mask_of(read_slots(node))
+    """The mask of the slots that are read somewhere and may be unset at the begin."""
+    found = mask_of([slot for node in nodes for slot in read_slots(node)])
     return found & ~((1 << params) - 1) if whole else found
 
 
@@ -187,9 +186,8 @@ def _fate_behind(node, word, fate, bits, of_slots):
             return unset, known | gained
         case "ask":
             return unset & ~(1 << node[3]) if word in ("tells", "raises") else unset, 0
-        case "move":
-            return unset & ~(1 << node[1]), known & ~of_slots.get(node[1], 0)
-        case "unset":
-            return unset | 1 << node[1], known & ~of_slots.get(node[1], 0)
+        case "move" | "unset":
+            here = 1 << node[1]
+            return unset | here if node[0] == "unset" else unset & ~here, known & ~of_slots.get(node[1], 0)
         case _:
             return unset, known

@@ -7,7 +7,6 @@ from pieceasks.promises import is_kept, vows_in
 from pieceasks.search import Search
 from pieceasks.walks import check_begin
 
-
 # So many results are kept of one piece.
 MOST_RESULTS = 200
 

@@ -57,8 +57,6 @@ class Draft:
         raise TypeError("a draft is not iterated over")
 
     def __iadd__(self, other):
-        if not isinstance(other, (tuple, list)):
-            return NotImplemented
         self.lay(self.present + other)
         return self
 

@@ -60,17 +60,6 @@ def read_slots(node):
     return [part for part in operands_of(node) if not isinstance(part, str)]
 
 
-def seen_slots(node):
-    """The slots that a node reads or looks at."""
-    match node[0]:
-        case "set":
-            return [node[1]]
-        case "end":
-            return [*read_slots(node), *node[3]]
-        case _:
-            return read_slots(node)
-
-
 def count_slots(nodes, many):
     """How many slots there are, of which the first so many lie open at the begin."""
     for node in nodes:
@@ -126,7 +115,7 @@ def _needs(node):
         case "unset":
             return 0, ((node[2], 1 << node[1]),)
         case "end":
-            return mask_of(seen_slots(node)), ()
+            return mask_of([*read_slots(node), *node[3]]), ()
         case "jump":
             return 0, ((node[1], 0),)
         case _:

@@ -9,7 +9,6 @@ from pieceasks.stands import HOLE, looker_of, matches
 from pieceasks.things import CONSTANTS, ERRORS, UNSET, count_things
 from pieceasks.vows import allowed_answers, fixed_looks
 
-
 # What stands for itself wherever things are numbered.
 THEMSELVES = {
     "None": "None", "True": "True", "False": "False",

@@ -13,7 +13,6 @@ from pieceasks.things import UNSET
 
 HOLE = "hole"
 
-
 # So many lookers are kept of one machine.
 MOST_LOOKERS = 20
 

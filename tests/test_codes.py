@@ -259,6 +259,23 @@ class CodeTest(unittest.TestCase):
         # A method that is told to lack later is still known to be there.
         Code(1, (("has", "add", 0, 1, 3), ("has", "add", 0, 2, 2), asking("add", 0, 0, row=3), end))
 
+    def test_other_slots_and_methods(self):
+        """What a row tells of one slot or method tells nothing of another one."""
+        # A slot that is told unset, unset, set or moved into leaves the others as they were.
+        self.fails("unset", 1, 1, (("set", 1, 2, 1), ("end", "returns", 2, ()), END))
+        self.fails("unset", 1, 1, (("unset", 1), ("end", "returns", 2, ())))
+        self.fails("unset", 1, 1, (("move", 1, 0), ("end", "returns", 2, ())))
+        self.fails("unset", 2, 1, (("set", 1, 1, 3), ("set", 2, 3, 2), ("end", "returns", 2, ()), END))
+        Code(2, (("unset", 2), ("end", "returns", 1, ())))
+        Code(2, (("move", 2, 0), ("end", "returns", 1, ())))
+        Code(1, (("unset", 0), ("move", 0, "None"), ("end", "returns", 0, ())))
+        # Nothing is known of constants, and of no slot behind a move into another one.
+        self.fails("lacks", 2, 1, (("has", "add", 0, 1, 1), ("has", "add", "None", 2, 3), asking("add", 0, 0, row=3), END))
+        self.fails("lacks", 3, 1, (("has", "add", 0, 2, 1), ("jump", 2), ("move", 1, "None"), asking("add", 0, 0, row=4), END))
+        self.fails("lacks", 2, 2, (("has", "add", 0, 1, 3), ("unset", 1), asking("sub", 0, 0, row=3), END))
+        Code(2, (("has", "add", 0, 1, 3), ("unset", 1), asking("add", 0, 0, row=3), END))
+        Code(2, (("has", "add", 0, 1, 4), ("has", "sub", 0, 2, 4), ("move", 1, 0), asking("add", 0, 1, row=4), END))
+
     def test_each_row(self):
         """What a row does, of a code with three params."""
         def end(row, begin, lacking=""):

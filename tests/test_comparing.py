@@ -232,6 +232,68 @@ class CodesTest(Comparing):
         self.assertIsNone(compare(code("add"), code("neg"), (("bare", "add"), ("bare", "neg"))))
         self.assertIsNone(compare(code("add"), code("neg"), (("has", "add"), ("has", "neg"))))
 
+    def test_slots_that_an_answer_leaves(self):
+        """What a call would tell is put nowhere if it declines, so the slot is wanted ahead of it."""
+        def code(end):
+            goals = (("declines", 2), ("raises", 3), ("tells", 3))
+            return Code(2, (("has", "eq", 0, 1, 3), ("ask", "eq", (0, 0), 1, goals), end, ("end", "returns", "None", ())))
+
+        one, other = code(("end", "returns", 1, ())), code(("end", "returns", "None", ()))
+        for book in (compare(one, other), compare(other, one)):
+            self.assertEqual([answer for _, answer in book.moments], [("declines",)])
+            self.assertTrue(parts_on(one, other, book))
+        self.assertIsNone(compare(one, code(("end", "returns", 1, ()))))
+        self.assertIsNone(compare(one, other, (("takes", "eq"),)))
+        # The same thing, held in another slot ahead of the call.
+        goals = (("declines", 3), ("raises", 4), ("tells", 4))
+        moved = Code(2, (("move", 2, 1), ("has", "eq", 0, 2, 4), ("ask", "eq", (0, 0), 1, goals), ("end", "returns", 2, ()), ("end", "returns", "None", ())))
+        self.assertIsNone(compare(one, moved))
+        self.assertEqual(len(compare(other, moved)), 1)
+        self.assertEqual(one(Book((0, 1), (((), ("declines",)),)))[1], ("returns", 1, ()))
+
+    def test_look_ups_in_another_order(self):
+        """Both look up two methods, the one in the other order; they part by one outcome of both at most."""
+        def code(methods, ends):
+            first, second = methods
+            return Code(1, (("has", first, 0, 1, 2), ("has", second, 0, 3, 4), ("has", second, 0, 5, 6), *[("end", "returns", word, ()) for word in ends]))
+
+        words = ("None", "True", "False", "TypeError")
+        one = code(("add", "sub"), words)
+        self.assertIsNone(compare(one, code(("sub", "add"), (words[0], words[2], words[1], words[3]))))
+        for at in range(4):
+            ends = [words[0], words[2], words[1], words[3]]
+            ends[at] = "ValueError"
+            other = code(("sub", "add"), ends)
+            for left, right in ((one, other), (other, one)):
+                book = compare(left, right)
+                self.assertEqual((len(book), sorted(book.lacking)), (0, [[], [("sub", 0)], [("add", 0)], [("add", 0), ("sub", 0)]][[0, 2, 1, 3][at]]))
+                self.assertTrue(parts_on(left, right, book))
+
+    def test_look_ups_on_one_way_alone(self):
+        """The one looks up the second method on one way alone, the other one always."""
+        ends = [("end", "returns", word, ()) for word in ("None", "True", "False", "TypeError")]
+        one = Code(1, (("has", "add", 0, 1, 4), ("has", "sub", 0, 2, 3), *ends[:3]))
+        same = Code(1, (("has", "sub", 0, 1, 2), ("has", "add", 0, 3, 5), ("has", "add", 0, 4, 5), *ends[:3]))
+        other = Code(1, (("has", "sub", 0, 1, 2), ("has", "add", 0, 3, 6), ("has", "add", 0, 4, 5), *ends))
+        for first, second in ((one, same), (same, one)):
+            self.assertIsNone(compare(first, second))
+        for first, second in ((one, other), (other, one)):
+            book = compare(first, second)
+            self.assertEqual((len(book), book.lacking), (0, (("add", 0),)))
+            self.assertTrue(parts_on(first, second, book))
+
+    def test_many_look_ups_at_one_moment(self):
+        """However many things are looked up without a call, it is no going on for ever."""
+        tests = "not x\n" * 60
+        one, other = whole(tests + "return x"), whole(tests + "return y")
+        self.check(0, one, other, (("bare", "bool"), ("bare", "len")), brute=0)
+        self.check(None, one, whole(tests + "return x"), (("bare", "bool"), ("bare", "len")), brute=0)
+        lone = Book.read("begin 0 1\nbool:0 len:0")
+        self.assertEqual([piece(lone)[1] for piece in (one, other, compiled(one))], [("returns", 0, ()), ("returns", 1, ()), ("returns", 0, ())])
+        moves = "z = x\n" * 60
+        self.check(0, whole(moves + "return z"), whole(moves + "return y"), brute=0)
+        self.assertEqual(whole(moves + "return z")(Book.read("begin 0 1"))[1], ("returns", 0, ()))
+
     def test_pieces_and_their_codes(self):
         for seed in range(250):
             piece = random_piece(random.Random(seed), deep=2, many=2)

@@ -351,6 +351,26 @@ class LanguageTest(unittest.TestCase):
                         if isinstance(part, ast.Starred):
                             self.assertIsInstance(part.value, (ast.Name, ast.Attribute), (path, node.lineno))
 
+    def test_iterated_at_once(self):
+        """Ranges, zips and views stand after the `in` of a loop, or first in what goes over them."""
+        views = ("items", "keys", "values")
+        for path, tree in trees():
+            above = {id(part): node for node in ast.walk(tree) for part in ast.iter_child_nodes(node)}
+            for node in ast.walk(tree):
+                if not isinstance(node, ast.Call):
+                    continue
+                plain = isinstance(node.func, ast.Name) and node.func.id in ("range", "zip", "enumerate", "reversed", "map")
+                if not plain and not (isinstance(node.func, ast.Attribute) and node.func.attr in views):
+                    continue
+                outer = above[id(node)]
+                if isinstance(outer, (ast.For, ast.comprehension)):
+                    self.assertIs(outer.iter, node, (path, node.lineno))
+                    continue
+                self.assertIsInstance(outer, ast.Call, (path, node.lineno))
+                self.assertIs(outer.args[0], node, (path, node.lineno))
+                whole = outer.func.id if isinstance(outer.func, ast.Name) else ""
+                self.assertIn(whole, ("list", "tuple", "dict", "sorted", "sum", "any", "all", "enumerate", "zip"), (path, node.lineno))
+
     def test_generators(self):
         """No other function or method has a generator's name, and nothing is called by it here."""
         made = {node.name for _, tree in trees() for node in ast.walk(tree) if isinstance(node, ast.FunctionDef)

@@ -8,7 +8,7 @@ from helper import Maker
 from pieceasks.books import Book
 from pieceasks.codes import Code, compiled
 from pieceasks.comparing import compare, parts_on
-from pieceasks.errors import InvalidPromise, OtherShape, Unlike
+from pieceasks.errors import InvalidCode, InvalidPromise, OtherShape, Unlike
 from pieceasks.papers import paper_holds, paper_of
 from pieceasks.pieces import Piece
 from pieceasks.promises import Promises
@@ -75,6 +75,34 @@ def changed(paper, goals, dice):
     else:
         pairs.append(((row, tuple((slot, "None") for slot, _ in slots)), (row_there, tuple((slot, "None") for slot, _ in slots_there))))
     return tuple(pairs)
+
+
+def random_rows(dice, many, slots, kept):
+    """Rows that make a code with some luck."""
+    words = {"neg": ("raises", "tells"), "eq": ("declines", "raises", "tells"), "bool": ("no", "raises", "yes")}
+
+    def slot():
+        return dice.randrange(slots)
+
+    def operand():
+        return dice.choice((slot(), slot(), slot(), dice.choice(("None", "True", "TypeError"))))
+
+    def goal():
+        return dice.randrange(many)
+
+    rows = []
+    while len(rows) < many:
+        word = dice.choice(("has", "has", "same", "kind", "true", "set", "move", "unset", "jump", "end", "end"))
+        if word == "has":
+            method, asked = dice.choice(sorted(words)), slot()
+            given = (asked, operand()) if method == "eq" else (asked,)
+            rows += [(word, method, asked, len(rows) + 1, goal()), ("ask", method, given, dice.randrange(slots + 1), tuple((answer, goal()) for answer in words[method]))]
+        elif word == "end":
+            rows.append((word, dice.choice(("returns", "raises")), operand(), tuple(slot() for _ in range(kept or 0))))
+        else:
+            rows.append((word,) + {"same": lambda: (operand(), operand(), goal(), goal()), "kind": lambda: (operand(), goal(), goal()), "true": lambda: (operand(), goal(), goal()),
+                                   "set": lambda: (slot(), goal(), goal()), "move": lambda: (slot(), operand()), "unset": lambda: (slot(),), "jump": lambda: (goal(),)}[word]())
+    return tuple(rows)
 
 
 class Papers(unittest.TestCase):
@@ -175,7 +203,7 @@ class PaperTest(Papers):
         for wrong in (
             # Rows that are no goals of an ask, or none; slots that are not wanted, lacking, twice, in another order; things numbered otherwise.
             ((1, ((0, 0),)), (1, ((0, 0),))), ((1, ((0, 0),)), (2, ((3, 0),))), ((2, ((0, 0),)), (3, ((3, 0),))), ((7, ((0, 0),)), (2, ((3, 0),))),
-            ((-1, ((0, 0),)), (2, ((3, 0),))), ((True, ((0, 0),)), (2, ((3, 0),))), (("2", ((0, 0),)), (2, ((3, 0),))), ((None, ((0, 0),)), (2, ((3, 0),))),
+            ((-1, ((0, 0),)), (2, ((3, 0),))), ((False, ((0, 0),)), (0, ((0, 0),))), ((0, ((0, 0),)), (False, ((0, 0),))), ((True, ((0, 0),)), (2, ((3, 0),))), (("2", ((0, 0),)), (2, ((3, 0),))), ((None, ((0, 0),)), (2, ((3, 0),))),
             ((2, ((0, 0), (1, 0))), (2, ((3, 0),))), ((2, ((0, 0),)), (2, ((0, 0), (3, 0)))), ((2, ()), (2, ((3, 0),))), ((2, ((0, 0),)), (2, ())), ((2, ()), (2, ())),
             ((2, ((0, 0), (0, 0))), (2, ((3, 0),))), ((2, ((0, 1),)), (2, ((3, 1),))), ((2, ((0, 1),)), (2, ((3, 0),))), ((2, ((0, -1),)), (2, ((3, -1),))),
             ((2, ((0, "unset"),)), (2, ((3, "unset"),))), ((2, ((0, None),)), (2, ((3, None),))), ((2, ((0, False),)), (2, ((3, False),))), ((2, ((0, "0"),)), (2, ((3, "0"),))),
@@ -214,6 +242,12 @@ class PaperTest(Papers):
         self.assertTrue(paper_holds(looked, looked, (), paper + (more,)))
         self.assertFalse(paper_holds(looked, looked, (), paper + (((2, ((1, 0),)), (2, ())),)))
         self.assertFalse(paper_holds(looked, looked, (), paper + (((2, ((2, 0),)), (2, ((2, 0),))),)))
+        # Behind the call slot 0 is read where `set` tells no of slot 1, or yes.
+        for ways in ((4, 3), (3, 4)):
+            other = Code(2, (("has", "neg", 0, 1, 3), ("ask", "neg", (0,), 2, goals), ("set", 1, *ways), ("end", "returns", 0, ()), ("end", "returns", "None", ())))
+            paper = self.check(other, other)
+            for slots, right in ((((0, 0),), True), (((0, "None"), (1, 0)), True), ((), False), (((1, 0),), False)):
+                self.assertIs(paper_holds(other, other, (), paper + (((2, slots), (2, slots)),)), right, slots)
 
     def test_answers_that_are_needed(self):
         """The thing whose method it is, things that are held, new ones, and constants where they may be told."""
@@ -293,6 +327,36 @@ class RandomPapersTest(Papers):
                     self.assertIs(paper_holds(one, other, here, given), right, (seed, given))
                     told[right] += 1
         self.assertTrue(told[True] > 40 and told[False] > 30, told)
+
+    def test_codes(self):
+        """The same for codes made at random."""
+        told, dice = {True: 0, False: 0, "alike": 0, "unlike": 0}, random.Random(3)
+        while told["alike"] < 250:
+            kept = dice.choice((None, 1))
+            params = 1 if kept else dice.choice((1, 2))
+            slots = max(params, dice.choice((1, 2, 3)))
+            given = random_rows(dice, dice.randrange(1, 8), slots, kept)
+            other = list(given)
+            if dice.random() < 0.8:
+                other[dice.randrange(len(other))] = dice.choice(random_rows(dice, len(other), slots, kept))
+            try:
+                one, other = Code(params, given, kept), Code(params, tuple(other), kept)
+            except InvalidCode:
+                continue
+            vows = dice.choice(((), (("bare", "neg"),), (("has", "neg"), ("calm", "neg")), (("itself", "neg"),), (("truth", "eq"), ("takes", "eq")), (("has", "eq"), ("bare", "neg"))))
+            if compare(one, other, vows) is not None:
+                self.unlike(one, other, vows)
+                told["unlike"] += 1
+                continue
+            paper = self.check(one, other, vows)
+            told["alike"] += 1
+            goals = [sorted({0, 1, 2} | {goal for row in code.rows if row[0] == "ask" for _, goal in row[4]}) for code in (one, other)]
+            for _ in range(3):
+                value = changed(paper, goals, dice)
+                right = paper_check.holds(one, other, vows, value)
+                self.assertIs(paper_holds(one, other, vows, value), right, (one.rows, other.rows, vows, value))
+                told[right] += 1
+        self.assertTrue(told[True] > 100 and told[False] > 100 and told["unlike"] > 20, told)
 
 
 if __name__ == "__main__":

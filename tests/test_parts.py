@@ -30,6 +30,8 @@ WANTED = (
     ("params x y\npass\n(x := y) if y else None\nx", 0, 1, "x y"), ("params x y\npass\nNone if (x := y) else None\nx", 0, 1, "y"),
     ("params x y\npass\n(x := y) if y else (x := None)\nx", 0, 1, "y"), ("params x y\npass\ny < y < (x := y)\nx", 0, 1, "x y"), ("params x y\npass\ny < (x := y) < x", 0, 1, "y"),
     ("params x y\npass\nx(y, z)", 0, 1, "x y z"), ("params x y\npass\n-x.w in y[z]", 0, 1, "x y z"), ("params x y\npass\nnot x is y", 0, 1, "x y"), ("params x\npass\nNone", 0, 1, ""),
+    ("params x y\npass\nx if None else None", 0, 1, "x"), ("params x y\npass\nNone if None else x", 0, 1, "x"), ("params x y\npass\ntry:\n None.w += (x := None)\nexcept:\n return x", 0, 1, "x"),
+    ("params x y\npass\ntry:\n del None[None]\n x = None\nexcept:\n x", 0, 1, "x"), ("params x y\npass\ntry:\n del None.w\n x = None\nexcept:\n x", 0, 1, "x"), ("params x y\npass\nwith None:\n raise None\nreturn x", 0, 1, "x"), ("params x y\npass\ndel None[None]\nreturn x", 0, 1, "x"),
     # What is kept at an end.
     ("params x y\nkept x\npass", 0, 1, "x"), ("params x y\nkept x z\nx = y\npass", 1, 1, "x z"), ("params x y\nkept x z\npass\nx = None", 0, 1, "x z"),
     ("params x y\nkept x\npass\nx = y", 0, 1, "x y"), ("params x y\nkept x\nx = None\nreturn y", 0, 1, "x y"), ("params x y\nkept x\ndel x\nreturn y", 0, 1, "x y"),

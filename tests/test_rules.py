@@ -96,7 +96,7 @@ class RuleTest(unittest.TestCase):
         given = rule(*IN_PLACE)
         self.assertEqual(given, rule(*IN_PLACE))
         self.assertFalse(given != rule(*IN_PLACE))
-        for other in (~given, rule("a b", "a b", "a += b", "a = b + a"), rule("b a", "b a", "b += a", "b = b + a"), rule("a b", "a", "a += b", "a = a + b"), None, given.old, (given.old, given.new), "rule"):
+        for other in (~given, rule("a b", "a b", "a += b", "a = b + a"), rule("b a", "b a", "b += a", "b = b + a"), rule("a b", "a", "a += b", "a = a + b"), rule("a b", "a b", "a -= b", "a = a + b"), None, given.old, (given.old, given.new), "rule"):
             self.assertFalse(given == other)
             self.assertTrue(given != other)
 
@@ -135,6 +135,7 @@ class RuleTest(unittest.TestCase):
             (rule("a b", "a b", "for a in b:\n break\nelse:\n b", "b"), "params x y\nfor x in y:\n break\nelse:\n y\nfor y in x:\n break\nelse:\n x\nfor x in y:\n break", [0, 3]),
             (rule("a", "", "try:\n pass\nexcept as a:\n a", "pass"), "params\ntry:\n pass\nexcept as x:\n x\ntry:\n pass\nexcept as x:\n y\ntry:\n pass\nexcept:\n x", [0]),
             (rule("a b", "a b", "with a as b:\n pass", "b = a"), "params x y\nwith x as y:\n pass\nwith x:\n pass\nwith y as x:\n pass", [0, 4]),
+            (rule("a", "a", "with a:\n a", "a"), "params x\nwith x:\n x\nwith x as y:\n x\nwith y:\n y", [0, 4]), (rule("a", "a", "try:\n a\nexcept:\n a", "a"), "params x\ntry:\n x\nexcept:\n x\ntry:\n x\nexcept as y:\n x", [0]),
             (rule("a b", "a b", "(a := b)", "a = b"), "params x y\n(x := y)\nx = y\n(x := x)\n(y := x)", [0, 3]), (rule("a b", "a b", "a if b else -a(b, None)", "a"), "params x y\nx if y else -x(y, None)\nx if y else -x(y, True)\nx if y else -x(y)\ny if x else -y(x, None)", [0, 3]),
             (rule("", "", "None", "pass"), "params x\nNone\nTrue\nx", [0]), (rule("a b", "a b", "a, b = b, a", "a, b = b, a"), "params x y\nx, y = y, x\nx, y = x, y\nx, y = y", [0]),
         ):
