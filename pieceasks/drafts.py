@@ -26,7 +26,7 @@ class Draft:
 
     def take_out(self, at):
         """Takes the statement at a place out."""
-        self._lay_rows(at, ())
+        self._put_rows(at, ())
 
     def undo(self):
         """Takes back the last change that stands; returns whether there was one."""
@@ -40,7 +40,7 @@ class Draft:
         """What is entered to try changes out."""
         return Trial(self)
 
-    def _lay_rows(self, at, rows):
+    def _put_rows(self, at, rows):
         """Puts statements in the place of one."""
         here = self.present
         if at not in here:
@@ -51,7 +51,7 @@ class Draft:
         return self.present[at]
 
     def __setitem__(self, at, worth):
-        self._lay_rows(at, (worth,))
+        self._put_rows(at, (worth,))
 
     def __iter__(self):
         raise TypeError("a draft is not iterated over")

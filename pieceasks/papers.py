@@ -17,10 +17,11 @@ def paper_of(one, other, promises=()):
     todo = _first_states(moves, one.shape)
     met = {state: True for state in todo}
     while todo:
-        for state in _states_behind(moves, todo.pop()):
-            if state not in met:
-                met[state] = True
-                todo.append(state)
+        state = todo.pop()
+        for onward in _states_behind(moves, state):
+            if onward not in met:
+                met[onward] = True
+                todo.append(onward)
     return tuple([_written(moves, state) for state in met])
 
 

@@ -10,6 +10,10 @@ from pieceasks.words import right_name, wrong_name
 from pieceasks.writing import piece_lines
 
 
+# So many machines with slots for names of others are kept of one piece.
+MOST_MACHINES = 20
+
+
 def _check_names(word, values):
     """Makes sure that values are names, each once."""
     at = wrong_name(values)
@@ -51,8 +55,10 @@ class Piece:
             _check_names("kept", self._kept)
         self._statements = _statements(self._body)
         self._names = _names_in(self._params, self._kept or (), self._statements)
-        # What is found out once it is asked for: machines, by the names for which they have slots.
-        self._machines = {}
+        # What is found out once it is asked for: the machine, others by the names for which they have
+        # slots, and the mark.
+        self._machine = None
+        self._beside = {}
         self._mark = ""
 
     @classmethod
@@ -136,18 +142,23 @@ class Piece:
 
     def machine(self):
         """What goes through the piece, from one call to the next."""
-        return self._machine_for(self._names)
+        if self._machine is None:
+            self._machine = self._machine_for(self._names)
+        return self._machine
 
     def machine_beside(self, names):
         """A machine that has slots for these names, too, ascending behind the params."""
-        if names == self._names:
-            return self._machine_for(names)
         found = {name: True for name in (*self._names, *names)}
-        return self._machine_for(tuple(sorted([str(name) for name in found])))
+        if len(found) == len(self._names):
+            return self.machine()
+        key = tuple(sorted([str(name) for name in found]))
+        if key not in self._beside:
+            if len(self._beside) >= MOST_MACHINES:
+                self._beside.clear()
+            self._beside[key] = self._machine_for(key)
+        return self._beside[key]
 
     def _machine_for(self, names):
-        """The machine that has slots for these names."""
-        if names not in self._machines:
-            nodes, first, labels = translated(self._params, names, self._body, self._kept)
-            self._machines[names] = Machine(nodes, first, labels)
-        return self._machines[names]
+        """A machine that has slots for these names."""
+        nodes, first, labels = translated(self._params, names, self._body, self._kept)
+        return Machine(nodes, first, labels)

@@ -283,6 +283,14 @@ class LanguageTest(unittest.TestCase):
                 if isinstance(node, ast.Name) and node.id in dir(builtins) and node.id not in own:
                     self.assertIn(node.id, ALLOWED_BUILTINS, (path, node.lineno))
 
+    def test_names_of_methods_and_fields(self):
+        barred = tuple(begin for begin in BARRED_BEGINS if begin not in ("__", "_wall"))
+        for path, tree in trees():
+            for node in ast.walk(tree):
+                name = node.name if isinstance(node, ast.FunctionDef) else node.attr if isinstance(node, ast.Attribute) else ""
+                self.assertFalse(name.startswith(barred), (path, name))
+                self.assertFalse(BARRED_ENTIRELY.fullmatch(name), (path, name))
+
     def test_words(self):
         for path in FILES:
             for word in re.findall(r"\w+", path.read_text(encoding="utf-8")):
