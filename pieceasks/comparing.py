@@ -28,6 +28,8 @@ def compare(one, other, promises=()):
     """None if both are alike under promises, else a least book that tells them apart."""
     check_shapes(one, other)
     vows = vows_in(promises)
+    if one.mark() == other.mark():
+        return None
     results = one.machine().results
     key = (other.mark(), vows)
     if key not in results:

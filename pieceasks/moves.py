@@ -2,7 +2,8 @@
 
 A state is a triple of a node of each machine and the values of the slots that are wanted there, of
 the first machine and then of the second one. Things are numbered in it from 0 in the order in which
-they occur, so that states that differ in the names of things alone are one.
+they occur, so that states that differ in the names of things alone are one. A begin is a state, too:
+it has None for both nodes.
 """
 
 from pieceasks.stands import HOLE, looker_of, matches
@@ -56,16 +57,25 @@ class Moves:
     def leaves(self, state):
         """The pairs of what both may come to from a state at one moment."""
         one, other, values = state
-        many = len(self.one.wanted_at(one))
         found = []
-        matches(self.one.tree(one, values[:many]), self.other.tree(other, values[many:]), {}, found)
+        if one is None:
+            matches(self.one.tree_first(values), self.other.tree_first(values), {}, found)
+        else:
+            many = len(self.one.wanted_at(one))
+            matches(self.one.tree(one, values[:many]), self.other.tree(other, values[many:]), {}, found)
         return found
 
-    def allowed(self, method):
-        """Which answers to a method the promises allow."""
+    def behind(self, one, other):
+        """Where the answers to a call that both make lead, of a pair of leaves.
+
+        For each first word that is allowed these are a triple of what `onward` tells of both and a
+        pair of the word and of which things it tells or raises.
+        """
+        method = one[1][0]
         if method not in self.known:
             self.known[method] = allowed_answers(self.vows, method)
-        return self.known[method]
+        onward, onward_there = self.one.onward(one), self.other.onward(other)
+        return [row for row in zip(onward, onward_there, self.known[method]) if row[2][1] is not None]
 
 
 def answers_by(call, told, values, new):

@@ -125,9 +125,7 @@ def _states_behind(moves, state):
             return None
         if one[3] is None:
             continue
-        for held, held_there, told in zip(one[3], other[3], moves.allowed(one[1][0])):
-            if told[1] is None:
-                continue
+        for held, held_there, told in moves.behind(one, other):
             for _, values in answers_by(one[1], told, (*held[1], *held_there[1]), new):
                 found[(held[0], held_there[0], renumbered(values)[0])] = True
     return list(found)

@@ -21,7 +21,7 @@ class Search:
     def parting(self, shape):
         """A least book on which both part, which have this shape, or None."""
         for begin in begins(shape):
-            self._put_begin(begin)
+            self._put_begin(begin, shape[1] is not None)
         at = 0
         while at < len(self.states):
             for one, other in self.moves.leaves(self.states[at]):
@@ -32,8 +32,13 @@ class Search:
             at = at + 1
         return None
 
-    def _put_begin(self, begin):
+    def _put_begin(self, begin, is_part):
         """Puts the state at a begin."""
+        if not is_part:
+            self.states.append((None, None, begin))
+            self.steps.append((None, (), begin, tuple(range(count_things(begin)))))
+            return
+        # As there are many begins of parts, those that differ in what is not wanted are put together.
         held = self.moves.one.held_first(begin)
         held_there = self.moves.other.held_first(begin)
         self._put(held, held_there, (*held[1], *held_there[1]), (None, (), begin))
@@ -52,13 +57,12 @@ class Search:
 
     def _answer(self, at, one, other):
         """Puts the states behind all answers to a call that both make."""
-        call = one[1]
         lacking = (*one[2], *other[2])
         new = len(self.steps[at][3])
-        for held, held_there, told in zip(one[3], other[3], self.moves.allowed(call[0])):
-            if told[1] is None or (held[1] == held_there[1] and self.twins.are(held[0], held_there[0])):
+        for held, held_there, told in self.moves.behind(one, other):
+            if held[1] == held_there[1] and self.twins.are(held[0], held_there[0]):
                 continue
-            for answer, values in answers_by(call, told, (*held[1], *held_there[1]), new):
+            for answer, values in answers_by(one[1], told, (*held[1], *held_there[1]), new):
                 self._put(held, held_there, values, (at, lacking, answer))
 
     def _book(self, at, lacking):

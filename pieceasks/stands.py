@@ -1,10 +1,8 @@
 """What a code does from a node on, whatever is looked up.
 
 This is told by a tree: `("look", (method, thing), yes, no)` has a tree for each outcome of a
-look-up, and `("leaf", coming, lacking, onward)` the call or end that comes then, what was looked up
-and lacking, and where each answer leads: None if it ends or goes on for ever, else for each first
-word a pair of a node and the values of the slots that are wanted there. What is told or raised is a
-hole in these.
+look-up, and `("leaf", coming, lacking, at, slots)` the call or end that comes then, what was looked up
+and lacking, the node of the `ask` (None if it ends or goes on for ever), and the slots there.
 """
 
 from pieceasks.flows import slots_with
@@ -47,6 +45,13 @@ class Looker:
         at = self.source.first
         return at, tuple([begin[slot] if slot < len(begin) else UNSET for slot in self.wanted_at(at)])
 
+    def tree_first(self, begin):
+        """What is done from a begin on."""
+        if begin not in self.trees:
+            slots = [*begin, *[UNSET] * (self.source.room - len(begin))]
+            self.trees[begin] = self._grown(self.source.first, slots, {}, {})
+        return self.trees[begin]
+
     def tree(self, at, values):
         """What is done from a node on, where the wanted slots have these values."""
         key = (at, values)
@@ -86,17 +91,22 @@ class Looker:
         """What is come to behind look-ups."""
         lacking = tuple([key for key in looks if not looks[key]])
         if at is None:
-            return "leaf", ("endless",), lacking, None
+            return "leaf", ("endless",), lacking, None, ()
         node = self.source.nodes[at]
-        onward = None
-        if node[0] == "ask":
-            onward = tuple([(goal, self._held(node, word, goal, slots)) for word, goal in node[4]])
-        return "leaf", coming_at(node, slots), lacking, onward
+        return "leaf", coming_at(node, slots), lacking, at if node[0] == "ask" else None, tuple(slots)
 
-    def _held(self, node, word, goal, slots):
-        """The values of the slots that are wanted at a goal behind a word."""
-        to = node[3] if word in ("tells", "raises") else None
-        return tuple([HOLE if slot == to else slots[slot] for slot in self.wanted_at(goal)])
+    def onward(self, leaf):
+        """For each first word of the answers to the call of a leaf a pair of a node and values.
+
+        These are those of the slots that are wanted there, with a hole for what is told or raised.
+        """
+        node = self.source.nodes[leaf[3]]
+        slots = leaf[4]
+        found = []
+        for word, goal in node[4]:
+            to = node[3] if word in ("tells", "raises") else None
+            found.append((goal, tuple([HOLE if slot == to else slots[slot] for slot in self.wanted_at(goal)])))
+        return found
 
 
 def matches(one, other, looks, found):
